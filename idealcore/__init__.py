@@ -1,0 +1,1 @@
+"""Idealcore: polynomial ideals with certificates."""

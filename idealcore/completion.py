@@ -1,0 +1,191 @@
+"""The computation of bases: B. Buchberger's algorithm.
+
+Pairs are left out as R. Gebauer and H. M. Moeller tell.  The generators are made to have monomials of one degree
+by one more variable, and pairs are taken by ascending degrees: without this, polynomials of very many terms come up
+in orders like "lex".  If 1 is put in the place of the additional variable, a basis remains.
+"""
+from heapq import heapify, heappop, heappush
+
+from idealcore.coding import lifted_coding, lowered
+from idealcore.packed import lowest
+from idealcore.reducing import divided, reducer_of, reducers_of, rest_table, s_value
+
+
+class Pile:
+    """Reducers that grow in number, with the pairs whose S-polynomials must be looked at.
+
+    A pair is a triple (code of the least common multiple, index, index).  The reducers at the indexes alive are
+    those whose leading monomial is not divided by that of a later one.
+    """
+
+    def __init__(self, coding):
+        self.coding = coding
+        self.reducers = []
+        self.alive = []
+        self.pairs = []
+
+    def head(self, index):
+        """The code of the leading monomial of a reducer."""
+        return self.reducers[index][0][0]
+
+    def living(self):
+        """The reducers that are alive."""
+        return [self.reducers[index] for index in self.alive]
+
+    def put(self, reducer):
+        """Appends a reducer and brings the pairs up to date."""
+        head = reducer[0][0]
+        new = len(self.reducers)
+        self.reducers.append(reducer)
+        pairs = [pair for pair in self.pairs if not self.is_needless(pair, head)]
+        self.pairs = pairs + self.new_pairs(new)
+        heapify(self.pairs)
+        self.alive = [index for index in self.alive if not self.coding.divides(head, self.head(index))] + [new]
+
+    def is_needless(self, pair, head):
+        """Whether a pair follows from the two that its reducers make with a new one."""
+        common, one, other = pair
+        if one < 0 or not self.coding.divides(head, common):
+            return False
+        return self.coding.lcm(head, self.head(one)) != common and self.coding.lcm(head, self.head(other)) != common
+
+    def new_pairs(self, new):
+        """The pairs of a new reducer that do not follow from others."""
+        head = self.head(new)
+        commons = [(self.coding.lcm(head, self.head(index)), index) for index in self.alive]
+        # Where common multiples are equal, one that is the product comes first: it makes the others needless.
+        ranked = sorted([(common, common != head + self.head(index), index) for common, index in commons])
+        kept = []
+        pairs = []
+        for common, is_less, index in ranked:
+            if not any([self.coding.divides(earlier, common) for earlier in kept]):
+                kept.append(common)
+                if is_less:
+                    pairs.append((common, index, new))
+        return pairs
+
+
+class Completion:
+    """The computation of a basis of generators, which are packed polynomials.
+
+    Sources are counted through: first the generators, then the reducers, in the order in which they are found.
+    The history of a reducer tells it as the sum of n / d times a monomial times an earlier source, for quadruples
+    (source, code, n, d), the additional variable being left out.
+    """
+
+    def __init__(self, coding, generators):
+        self.coding = coding
+        self.high = lifted_coding(coding)
+        self.generators = [self.lifted(value) for value in generators]
+        self.history = []
+        self.pile = Pile(self.high)
+        # A generator waits for its degree as a pair with -1 and its index.
+        for index, (table, _) in enumerate(self.generators):
+            if table:
+                heappush(self.pile.pairs, (max(table), -1, index))
+
+    def lifted(self, value):
+        """A packed polynomial with powers of the additional variable, such that there is one degree only."""
+        rows = [(self.coding.exponents(code), n) for code, n in value[0].items()]
+        top = max([sum(exponents) for exponents, _ in rows], default=0)
+        return ({self.high.code(exponents + (top - sum(exponents),)): n for exponents, n in rows}, value[1])
+
+    def run(self):
+        """Takes pairs until none is left, or until 1 is known to be in the ideal."""
+        pile = self.pile
+        while pile.pairs:
+            _, one, other = heappop(pile.pairs)
+            value, history = self.start(one, other)
+            rest, steps = divided(self.high, value, pile.living())
+            if rest:
+                many = len(self.generators)
+                history += [(many + pile.alive[index], code, -n, d) for index, code, n, d in steps]
+                self.keep(rest_table(rest), history)
+                if self.low(rest[0][0]) == 0:
+                    pile.pairs = []
+
+    def start(self, one, other):
+        """The packed polynomial of a pair, and the history of it."""
+        many = len(self.generators)
+        if one < 0:
+            return (self.generators[other], [(other, 0, 1, 1)])
+        (table, below), parts = s_value(self.high, self.pile.reducers[one], self.pile.reducers[other])
+        (ahead, n, d), (behind, m, e) = parts
+        return (lowest(table, below), [(many + one, ahead, n, d), (many + other, behind, m, e)])
+
+    def keep(self, value, history):
+        """Keeps a packed polynomial as a new reducer."""
+        reducer, n, d = reducer_of(self.high.field, value[0])
+        n = n * value[1]
+        self.history.append([(source, self.low(code), m * n, e * d) for source, code, m, e in history])
+        self.pile.put(reducer)
+
+    def low(self, code):
+        """The code of a monomial without the additional variable."""
+        return lowered(self.coding, self.high, code)
+
+    def found(self):
+        """The pairs of a reducer and its source that are a basis, the additional variable being left out."""
+        many = len(self.generators)
+        pairs = []
+        for index in self.pile.alive:
+            reducer = [(self.low(code), n) for code, n in self.pile.reducers[index]]
+            pairs.append((reducer, many + index))
+        return pairs
+
+
+class Found:
+    """A basis of generators: reducers by ascending leading monomials, none of which divides another one.
+
+    Each has its source; sources and history are those of the completion.
+    """
+
+    def __init__(self, coding, pairs, history):
+        ranked = sorted(pairs, key=lambda pair: pair[0][0][0])
+        kept = []
+        for reducer, source in ranked:
+            if not any([coding.divides(earlier[0][0], reducer[0][0]) for earlier, _ in kept]):
+                kept.append((reducer, source))
+        self.reducers = [reducer for reducer, _ in kept]
+        self.sources = [source for _, source in kept]
+        self.history = history
+
+
+def is_complete(coding, reducers):
+    """Whether reducers are a basis: it is enough to look at the pairs that do not follow from others."""
+    pile = Pile(coding)
+    for reducer in reducers:
+        pile.put(reducer)
+    for _, one, other in pile.pairs:
+        value, _ = s_value(coding, reducers[one], reducers[other])
+        rest, _ = divided(coding, value, reducers)
+        if rest:
+            return False
+    return True
+
+
+def found_basis(coding, generators):
+    """A basis of generators, which are packed polynomials."""
+    ready = reducers_of(coding.field, generators)
+    if is_complete(coding, [reducer for reducer, _, _, _ in ready]):
+        many = len(generators)
+        pairs = [(row[0], many + place) for place, row in enumerate(ready)]
+        return Found(coding, pairs, [[(index, 0, n, d)] for _, index, n, d in ready])
+    done = Completion(coding, generators)
+    done.run()
+    return Found(coding, done.found(), done.history)
+
+
+def reduced_basis(coding, generators):
+    """The reducers of the reduced basis of generators, by ascending leading monomials."""
+    reducers = found_basis(coding, generators).reducers
+    return [without_divisible(coding, reducer, reducers) for reducer in reducers]
+
+
+def without_divisible(coding, reducer, reducers):
+    """A reducer of a basis, its terms behind the leading one replaced by their rest."""
+    head, first = reducer[0]
+    rest, _ = divided(coding, (dict(reducer[1:]), 1), reducers)
+    table, below = rest_table(rest)
+    table[head] = first * below
+    return reducer_of(coding.field, table)[0]

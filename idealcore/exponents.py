@@ -1,0 +1,14 @@
+"""Tuples of exponents."""
+
+
+def monomials_up_to(many, degree):
+    """All monomials in so many variables of at most a degree, in no special order."""
+    found = [()]
+    for _ in range(many):
+        found = [start + (exponent,) for start in found for exponent in range(degree - sum(start) + 1)]
+    return found
+
+
+def shifted(monomial, place, by):
+    """The monomial with the exponent at a place raised."""
+    return monomial[:place] + (monomial[place] + by,) + monomial[place + 1:]

@@ -1,0 +1,100 @@
+"""Which polynomials are in an ideal, with certificates."""
+from idealcore.bases import are_basis, reducers_of_ideal
+from idealcore.checks import MOST_DIVISORS, check_generators, check_polynomial, check_ring, is_polynomial
+from idealcore.checks import is_row_of_polynomials, is_tuple_of, is_tuple_up_to
+from idealcore.division import cofactors_and_rest
+from idealcore.packed import packed, products_sum, same_packed
+from idealcore.reducing import divided, monic, rest_polynomial
+from idealcore.tracing import Tracer
+
+
+def basis_certificate(ring, polys):
+    """A basis certificate for generators, with the reduced basis."""
+    coding = check_ring(ring)
+    check_generators(coding, polys)
+    some = tuple([monic(coding, reducer) for reducer in reducers_of_ideal(coding, polys)])
+    tracer = Tracer(coding, polys)
+    ahead = tuple([tracer.cofactors(p) for p in some])
+    back = []
+    for p in polys:
+        cofactors, _ = cofactors_and_rest(coding, packed(coding, p), some)
+        back.append(tuple(cofactors))
+    return (some, ahead, tuple(back))
+
+
+def shows_basis(ring, polys, value):
+    """Whether any value is a basis certificate for generators."""
+    coding = check_ring(ring)
+    check_generators(coding, polys)
+    if not is_tuple_of(value, 3):
+        return False
+    some, ahead, back = value
+    if not is_tuple_up_to(some, MOST_DIVISORS) or not is_row_of_polynomials(coding, some, len(some)):
+        return False
+    return tell_all(coding, ahead, polys, some) and tell_all(coding, back, some, polys) and are_basis(coding, some)
+
+
+def tell_all(coding, value, polys, sums):
+    """Whether a value is a tuple of tuples of cofactors of some polynomials, one for each of the sums."""
+    return is_tuple_of(value, len(sums)) and all(tells(coding, row, polys, p) for row, p in zip(value, sums))
+
+
+def tells(coding, value, polys, p):
+    """Whether a value is a tuple of cofactors of some polynomials with which the sum of the products is p."""
+    if not is_row_of_polynomials(coding, value, len(polys)):
+        return False
+    pairs = [(packed(coding, cofactor), packed(coding, q)) for cofactor, q in zip(value, polys)]
+    return same_packed(coding.field, products_sum(coding.field, pairs), packed(coding, p))
+
+
+def normal_form(ring, polys, p):
+    """The rest of the division of a polynomial by the reduced basis."""
+    coding = check_ring(ring)
+    check_generators(coding, polys)
+    check_polynomial(coding, p)
+    rest, _ = divided(coding, packed(coding, p), reducers_of_ideal(coding, polys))
+    return rest_polynomial(coding, rest)
+
+
+def member(ring, polys, p):
+    """The cofactors of a polynomial of the ideal, None if it is not in it."""
+    coding = check_ring(ring)
+    check_generators(coding, polys)
+    check_polynomial(coding, p)
+    return Tracer(coding, polys).cofactors(p)
+
+
+def shows_member(ring, polys, p, value):
+    """Whether any value is a tuple of cofactors with which the sum of the products is a polynomial."""
+    coding = check_ring(ring)
+    check_generators(coding, polys)
+    check_polynomial(coding, p)
+    return tells(coding, value, polys, p)
+
+
+def check_two_lots(ring, one, other):
+    """The coding of a ring, if both lots are generators."""
+    coding = check_ring(ring)
+    check_generators(coding, one)
+    check_generators(coding, other)
+    return coding
+
+
+def outsider(ring, one, other):
+    """The index of the first polynomial of one that is not in the ideal of other, None if there is none."""
+    return first_outside(check_two_lots(ring, one, other), one, other)
+
+
+def same_ideal(ring, one, other):
+    """Whether both ideals are the same."""
+    coding = check_two_lots(ring, one, other)
+    return first_outside(coding, one, other) is None and first_outside(coding, other, one) is None
+
+
+def first_outside(coding, one, other):
+    """The index of the first polynomial of one that is not in the ideal of other, None if there is none."""
+    tracer = Tracer(coding, other)
+    for index, p in enumerate(one):
+        if not tracer.holds(p):
+            return index
+    return None
