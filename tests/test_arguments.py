@@ -1,0 +1,250 @@
+"""Point 1, for all functions that have landed: wrong arguments of every kind, the leftmost error, no changes."""
+import copy
+import unittest
+
+from idealcore import bases, division, errors, membership, numbers, orders, polys, texts
+
+RING = (0, 2, "lex")
+X = (((1, 1), (1, 0)),)
+Y = (((1, 1), (0, 1)),)
+P = (((1, 1), (2, 0)), ((-1, 2), (0, 1)))
+TARGET = (0, 1, "deglex")
+ODD = [7, -1, "x", "", True, False, None, (), (1,), ((),), (None, None), [], [1], {}, {"a": 1}, (0, 2), "lex", ((1, 1),)]
+
+WRONG = {
+    "field": ("BadField", [1, 4, -1, 32, 37, True, False, None, "0", (0,), (), [], [0], {}, {0: 0}]),
+    "number": ("BadNumber", [7, 0, True, None, "1", (), (1,), (2, 2), (1, -1), (1, 0), (0, 2), (1, 1, 1), [1, 1], {},
+                             (True, 1), (1, True), (10 ** 200, 1), (1, 10 ** 200), (-10 ** 200, 1), ("1", 1)]),
+    "modular": ("BadNumber", [7, -1, True, False, None, "1", (), (1, 1), [1], {}, {1: 1}]),
+    "integer": ("BadInteger", [True, False, None, "1", (), (1,), [1], {}, {1: 1}]),
+    "degree": ("BadInteger", [-1, 13, True, False, None, "1", (), (1,), [1], {}]),
+    "ring": ("BadRing", [7, "lex", True, None, (), (0, 2), [0, 2, "lex"], {}, (0, 2, "lex", 1), (4, 2, "lex"),
+                         (False, 2, "lex"), (0, 0, "lex"), (0, 5, "lex"), (0, True, "lex"), (0, 2, "revlex"),
+                         (0, 2, None), (0, 2, ["lex"]), (0, 2, {}), (0, 2, ()), (0, 2, ("lex",)), ([], 2, "lex"),
+                         (0, 2, ("block", 0)), (0, 2, ("block", 2)), (0, 2, ("block", True)), (0, 2, ["block", 1]),
+                         (0, 2, ("block",)), (0, 2, ("block", 1, 1)), (0, 1, ("block", 1)), (0, 2, ("block", (1,))),
+                         (0, 2, ("weights", (1,))), (0, 2, ("weights", (1, 0))), (0, 2, ("weights", (1, 21))),
+                         (0, 2, ("weights", [1, 1])), (0, 2, ("weights", (1, True))), (0, 2, ("weights", (1, 1, 1))),
+                         (0, 2, ("weights", 1)), (0, 2, ("other", 1)), (0, 2, (["block"], 1)), (31.5, 2, "lex")]),
+    "monomial": ("BadMonomial", [7, "x", True, None, (), (1,), (1, 1, 1), [1, 1], {}, (-1, 1), (61, 0), (31, 30),
+                                 (True, 0), (1, "1"), (None, 1), ((1, 1), 1)]),
+    "polynomial": ("BadPolynomial", [7, "x", True, None, [], [1], {}, (1,), (None,), (((1, 1),),), ((1, (1, 0)),),
+                                     (((0, 1), (1, 0)),), (((1, 1), (1,)),), (((1, 1), (61, 0)),), (X,), X + X,
+                                     Y + X, [((1, 1), (1, 0))], ([(1, 1), (1, 0)],), (((1, 1), (1, 0), 1),),
+                                     (((2, 2), (1, 0)),), (((1, 1), [1, 0]),)]),
+    "text": ("NotText", [7, True, None, (), ("x",), [], ["x"], {}, {"x": 1}]),
+    "point": ("BadPoint", [7, "x", True, None, (), ((1, 1),), ((1, 1), (1, 1), (1, 1)), ((1, 1), (2, 2)), (1, 1),
+                           [(1, 1), (1, 1)], {}, ((1, 1), None)]),
+    "variable": ("BadVariable", [-1, 2, True, False, None, "x", (), (0,), [0], {}]),
+}
+BIG = {"terms": ("BadTerms", 200, ((1, 1), (1, 0)), [7, None, (), ((1, 1),), ((1, 1), (1,)), [(1, 1), (1, 0)],
+                                                      (1, (1, 0)), ((1, 1), (1, 0), 1), ((2, 2), (1, 0)), {}]),
+       "generators": ("BadPolynomials", 12, X, [7, None, True, "x", [], {}, X + X, ((1, (1, 0)),)]),
+       "divisors": ("BadPolynomials", 40, X, [7, None, False, "x", [], {}, Y + X, (((1, 1), (1,)),)])}
+
+# Each function with arguments that are allowed, and the kinds of those that are checked.
+CALLS = [
+    (numbers.number, (7, 1, 3), ("field", "integer", "integer")),
+    (numbers.number_sum, (0, (1, 2), (1, 3)), ("field", "number", "number")),
+    (numbers.number_product, (7, 1, 3), ("field", "modular", "modular")),
+    (numbers.number_sum, (7, 1, 3), ("field", "modular", "modular")),
+    (numbers.number_product, (0, (1, 2), (1, 3)), ("field", "number", "number")),
+    (numbers.number_inverse, (0, (1, 2)), ("field", "number")),
+    (numbers.number_inverse, (7, 3), ("field", "modular")),
+    (orders.compare, (RING, (1, 0), (0, 3)), ("ring", "monomial", "monomial")),
+    (orders.order_rows, (RING,), ("ring",)),
+    (orders.monomials, (RING, 2), ("ring", "degree")),
+    (orders.monomial_lcm, (RING, (1, 0), (0, 3)), ("ring", "monomial", "monomial")),
+    (orders.monomial_quotient, (RING, (1, 0), (1, 0)), ("ring", "monomial", "monomial")),
+    (polys.polynomial, (RING, X + X), ("ring", "terms")),
+    (polys.plus, (RING, P, X), ("ring", "polynomial", "polynomial")),
+    (polys.minus, (RING, P, X), ("ring", "polynomial", "polynomial")),
+    (polys.times, (RING, P, X), ("ring", "polynomial", "polynomial")),
+    (polys.scaled, (RING, P, (2, 3)), ("ring", "polynomial", "number")),
+    (polys.power, (RING, P, 3), ("ring", "polynomial", "degree")),
+    (polys.leading, (RING, P), ("ring", "polynomial")),
+    (polys.degree, (RING, P), ("ring", "polynomial")),
+    (polys.evaluate, (RING, P, ((1, 1), (2, 1))), ("ring", "polynomial", "point")),
+    (polys.derivative, (RING, P, 0), ("ring", "polynomial", "variable")),
+    (polys.substitute, (RING, P, TARGET, (((((1, 1), (1,)),), ()))), ("ring", "polynomial", "ring", None)),
+    (polys.parts, (RING, P), ("ring", "polynomial")),
+    (polys.reordered, (RING, P, (0, 2, "deglex")), ("ring", "polynomial", "ring")),
+    (texts.write, (RING, P), ("ring", "polynomial")),
+    (texts.read, (RING, "x-1/2*y"), ("ring", "text")),
+    (division.divide, (RING, P, (X, (), Y)), ("ring", "polynomial", "divisors")),
+    (bases.s_polynomial, (RING, P, X), ("ring", "polynomial", "polynomial")),
+    (bases.basis_gap, (RING, (P, X)), ("ring", "divisors")),
+    (bases.is_basis, (RING, (P, X)), ("ring", "divisors")),
+    (bases.basis, (RING, (P, X)), ("ring", "generators")),
+    (bases.leading_monomials, (RING, (P, X)), ("ring", "generators")),
+    (bases.standard_monomials, (RING, (P, X), 2), ("ring", "generators", "degree")),
+    (membership.basis_certificate, (RING, (P, X)), ("ring", "generators")),
+    (membership.shows_basis, (RING, (P, X), None), ("ring", "generators", None)),
+    (membership.normal_form, (RING, (P, X), Y), ("ring", "generators", "polynomial")),
+    (membership.member, (RING, (P, X), Y), ("ring", "generators", "polynomial")),
+    (membership.shows_member, (RING, (P, X), Y, None), ("ring", "generators", "polynomial", None)),
+    (membership.outsider, (RING, (P, X), (X,)), ("ring", "generators", "generators")),
+    (membership.same_ideal, (RING, (P, X), (X,)), ("ring", "generators", "generators")),
+]
+
+
+def wrong_values(kind):
+    """Triples of an error class, its fields and a wrong value."""
+    if kind in WRONG:
+        name, values = WRONG[kind]
+        return [(getattr(errors, name), {}, value) for value in values]
+    name, most, good, bad = BIG[kind]
+    found = [(getattr(errors, name), {"index": None}, value)
+             for value in (7, -1, "x", True, False, None, [], [good], {}, {0: good}, (good,) * (most + 1),
+                           (None,) * (most + 1))]
+    for value in bad:
+        if kind != "terms" and value == ():
+            continue
+        for ahead in (0, 1, most - 1):
+            found.append((getattr(errors, name), {"index": ahead}, (good,) * ahead + (value,)))
+        found.append((getattr(errors, name), {"index": 1}, (good, value, None)))
+    return found
+
+
+class Arguments(unittest.TestCase):
+
+    def check_raises(self, kind, fields, function, arguments):
+        shown = (function.__name__, arguments)
+        with self.assertRaises(errors.IdealError, msg=shown) as caught:
+            function(*arguments)
+        self.assertIs(caught.exception.__class__, kind, shown)
+        for name, value in fields.items():
+            self.assertEqual(getattr(caught.exception, name), value, shown)
+
+    def test_right_arguments_raise_nothing(self):
+        for function, arguments, _ in CALLS:
+            function(*arguments)
+
+    def test_each_wrong_argument(self):
+        for function, arguments, kinds in CALLS:
+            for place, kind in enumerate(kinds):
+                if kind is None:
+                    continue
+                for error, fields, value in wrong_values(kind):
+                    changed = arguments[:place] + (value,) + arguments[place + 1:]
+                    self.check_raises(error, fields, function, changed)
+
+    def test_the_leftmost_error_is_raised(self):
+        for function, arguments, kinds in CALLS:
+            for place, kind in enumerate(kinds):
+                if kind is None:
+                    continue
+                error, fields, value = wrong_values(kind)[0]
+                changed = arguments[:place] + (value,) + tuple({} for _ in arguments[place + 1:])
+                self.check_raises(error, fields, function, changed)
+
+    def test_odd_values_raise_errors_of_the_package_or_none(self):
+        for function, arguments, _ in CALLS:
+            for place in range(len(arguments)):
+                for value in ODD:
+                    changed = arguments[:place] + (value,) + arguments[place + 1:]
+                    try:
+                        function(*changed)
+                    except errors.IdealError:
+                        pass
+
+    def test_arguments_stay_as_they_were(self):
+        for function, arguments, _ in CALLS:
+            before = copy.deepcopy(arguments)
+            first = function(*arguments)
+            self.assertEqual(arguments, before, function.__name__)
+            self.assertEqual(function(*arguments), first, function.__name__)
+
+    def test_wrong_lists_and_dicts_stay_as_they_were(self):
+        for function, arguments, _ in CALLS:
+            for place in range(len(arguments)):
+                value = [[1], {"a": [2]}]
+                changed = arguments[:place] + (value,) + arguments[place + 1:]
+                try:
+                    function(*changed)
+                except errors.IdealError:
+                    pass
+                self.assertEqual(value, [[1], {"a": [2]}])
+
+    def test_returned_lists_are_new(self):
+        for function, arguments in ((orders.monomials, (RING, 2)), (polys.parts, (RING, P)),
+                                    (bases.standard_monomials, (RING, (P, X), 3))):
+            first = function(*arguments)
+            kept = list(first)
+            first.append(None)
+            self.assertEqual(function(*arguments), kept)
+
+    def test_names_of_parameters(self):
+        self.assertEqual(numbers.number(field=7, n=1, d=3), 5)
+        self.assertEqual(numbers.number_sum(field=7, a=1, b=3), 4)
+        self.assertEqual(numbers.number_product(field=7, a=2, b=3), 6)
+        self.assertEqual(numbers.number_inverse(field=7, a=2), 4)
+        self.assertEqual(orders.compare(ring=RING, one=(1, 0), other=(0, 1)), 1)
+        self.assertEqual(orders.monomials(ring=RING, degree=0), [(0, 0)])
+        self.assertEqual(orders.monomial_lcm(ring=RING, one=(1, 0), other=(0, 1)), (1, 1))
+        self.assertEqual(orders.monomial_quotient(ring=RING, one=(1, 1), other=(0, 1)), (1, 0))
+        self.assertEqual(len(orders.order_rows(ring=RING)[0]), 2)
+        self.assertEqual(polys.polynomial(ring=RING, terms=X), X)
+        self.assertEqual(polys.scaled(ring=RING, p=X, number=(1, 1)), X)
+        self.assertEqual(polys.minus(ring=RING, p=X, q=()), polys.plus(ring=RING, p=X, q=()))
+        self.assertEqual(polys.power(ring=RING, p=X, exponent=1), polys.times(ring=RING, p=X, q=(((1, 1), (0, 0)),)))
+        self.assertEqual(polys.leading(ring=RING, p=X), X[0])
+        self.assertEqual(polys.degree(ring=RING, p=X), 1)
+        self.assertEqual(polys.evaluate(ring=RING, p=X, point=((3, 1), (0, 1))), (3, 1))
+        self.assertEqual(polys.derivative(ring=RING, p=X, place=1), ())
+        self.assertEqual(polys.substitute(ring=RING, p=X, target=TARGET, values=((), ())), ())
+        self.assertEqual(polys.parts(ring=RING, p=X), [(1, X)])
+        self.assertEqual(polys.reordered(ring=RING, p=X, other=RING), X)
+        self.assertEqual(texts.read(ring=RING, text=texts.write(ring=RING, p=X)), X)
+        self.assertEqual(division.divide(ring=RING, p=X, divisors=()), ((), X))
+        self.assertEqual(bases.s_polynomial(ring=RING, p=X, q=Y), ())
+        self.assertIsNone(bases.basis_gap(ring=RING, polys=(X,)))
+        self.assertTrue(bases.is_basis(ring=RING, polys=(X,)))
+        self.assertEqual(bases.basis(ring=RING, polys=(X,)), (X,))
+        self.assertEqual(bases.leading_monomials(ring=RING, polys=(X,)), ((1, 0),))
+        self.assertEqual(bases.standard_monomials(ring=RING, polys=(X,), degree=0), [(0, 0)])
+        value = membership.basis_certificate(ring=RING, polys=(X,))
+        self.assertTrue(membership.shows_basis(ring=RING, polys=(X,), value=value))
+        self.assertEqual(membership.normal_form(ring=RING, polys=(X,), p=Y), Y)
+        value = membership.member(ring=RING, polys=(X,), p=X)
+        self.assertTrue(membership.shows_member(ring=RING, polys=(X,), p=X, value=value))
+        self.assertEqual(membership.outsider(ring=RING, one=(Y,), other=(X,)), 0)
+        self.assertFalse(membership.same_ideal(ring=RING, one=(Y,), other=(X,)))
+
+
+class Pairs(unittest.TestCase):
+    """Errors that depend on an argument further to the left."""
+
+    def test_substitute(self):
+        def check(kind, fields, *arguments):
+            with self.assertRaises(kind) as caught:
+                polys.substitute(*arguments)
+            for name, value in fields.items():
+                self.assertEqual(getattr(caught.exception, name), value)
+        one = (((1, 1), (1,)),)
+        check(errors.OtherRing, {}, RING, P, (5, 1, "lex"), (one, one))
+        check(errors.OtherRing, {}, RING, P, (5, 1, "lex"), None)
+        check(errors.BadPolynomials, {"index": None}, RING, P, TARGET, (one,))
+        check(errors.BadPolynomials, {"index": None}, RING, P, TARGET, (one, one, one))
+        check(errors.BadPolynomials, {"index": None}, RING, P, TARGET, [one, one])
+        check(errors.BadPolynomials, {"index": None}, RING, P, TARGET, 7)
+        check(errors.BadPolynomials, {"index": 0}, RING, P, TARGET, (X, one))
+        check(errors.BadPolynomials, {"index": 1}, RING, P, TARGET, (one, None))
+        check(errors.BadPolynomials, {"index": 1}, RING, P, TARGET, (one, X))
+
+    def test_reordered(self):
+        for other in ((5, 2, "lex"), (0, 1, "lex"), (0, 3, "deglex")):
+            with self.assertRaises(errors.OtherRing):
+                polys.reordered(RING, P, other)
+
+    def test_numbers_depend_on_the_field(self):
+        with self.assertRaises(errors.BadNumber):
+            numbers.number_sum(5, 1, (1, 1))
+        with self.assertRaises(errors.BadPolynomial):
+            polys.leading((5, 2, "lex"), P)
+        with self.assertRaises(errors.BadPolynomial):
+            polys.leading((0, 3, "lex"), P)
+
+
+if __name__ == "__main__":
+    unittest.main()
