@@ -82,5 +82,5 @@ def standard_monomials(ring, polys, degree):
     check_integer_in(degree, 0, 12)
     heads = [reducer[0][0] for reducer in reducers_of_ideal(coding, polys)]
     codes = [coding.code(monomial) for monomial in monomials_up_to(coding.many, degree)]
-    kept = [code for code in codes if not any(coding.divides(head, code) for head in heads)]
+    kept = [code for code in codes if not any([coding.divides(head, code) for head in heads])]
     return [coding.exponents(code) for code in sorted(kept)]

@@ -124,7 +124,7 @@ class Completion:
         """The code of a monomial without the additional variable."""
         return lowered(self.coding, self.high, code)
 
-    def found(self):
+    def low_pairs(self):
         """The pairs of a reducer and its source that are a basis, the additional variable being left out."""
         many = len(self.generators)
         pairs = []
@@ -158,7 +158,7 @@ def is_complete(coding, reducers):
         pile.put(reducer)
     for _, one, other in pile.pairs:
         value, _ = s_value(coding, reducers[one], reducers[other])
-        rest, _ = divided(coding, value, reducers)
+        rest, _ = divided(coding, value, reducers, hasty=True)
         if rest:
             return False
     return True
@@ -173,7 +173,7 @@ def found_basis(coding, generators):
         return Found(coding, pairs, [[(index, 0, n, d)] for _, index, n, d in ready])
     done = Completion(coding, generators)
     done.run()
-    return Found(coding, done.found(), done.history)
+    return Found(coding, done.low_pairs(), done.history)
 
 
 def reduced_basis(coding, generators):

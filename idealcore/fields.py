@@ -7,11 +7,6 @@ def zero_of(field):
     return (0, 1) if field == 0 else 0
 
 
-def one_of(field):
-    """The number one."""
-    return (1, 1) if field == 0 else 1
-
-
 def is_zero_in(field, n):
     """Whether an integer is zero in the field."""
     return n == 0 if field == 0 else n % field == 0

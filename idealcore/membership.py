@@ -1,7 +1,7 @@
 """Which polynomials are in an ideal, with certificates."""
 from idealcore.bases import are_basis, reducers_of_ideal
-from idealcore.checks import MOST_DIVISORS, check_generators, check_polynomial, check_ring, is_polynomial
-from idealcore.checks import is_row_of_polynomials, is_tuple_of, is_tuple_up_to
+from idealcore.checks import MOST_DIVISORS, check_generators, check_polynomial, check_ring, is_row_of_polynomials
+from idealcore.checks import is_tuple_of, is_tuple_up_to
 from idealcore.division import cofactors_and_rest
 from idealcore.packed import packed, products_sum, same_packed
 from idealcore.reducing import divided, monic, rest_polynomial

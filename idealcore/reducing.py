@@ -43,11 +43,12 @@ def monic(coding, reducer):
     return tuple([(make_number(coding.field, n, first), coding.exponents(code)) for code, n in reducer])
 
 
-def divided(coding, value, reducers):
+def divided(coding, value, reducers, hasty=False):
     """Divides a packed polynomial by reducers, the first one that can be taken being taken each time.
 
     Returns the rest, as a list of triples (code, n, d) for n / d times a monomial, and the list of the steps:
-    (index, code, n, d) tells that n / d times a monomial times a reducer was subtracted.
+    (index, code, n, d) tells that n / d times a monomial times a reducer was subtracted.  In haste, it is left at
+    the first term of the rest.
     """
     heads = [reducer[0][0] for reducer in reducers]
     left, below = dict(value[0]), value[1]
@@ -65,6 +66,8 @@ def divided(coding, value, reducers):
         index = first_divisor(coding.guard, heads, code)
         if index < 0:
             rest.append((code, n, below))
+            if hasty:
+                break
             continue
         first = reducers[index][0][1]
         common = gcd(n, first)

@@ -22,8 +22,8 @@ class Tracer:
         self.found = found_basis(self.plain, [packed(self.plain, p) for p in polys])
 
     def division(self, p):
-        """The rest and the steps of the division of a polynomial by the basis."""
-        return divided(self.plain, packed(self.plain, p), self.found.reducers)
+        """The rest, or its first term, and the steps of the division of a polynomial by the basis."""
+        return divided(self.plain, packed(self.plain, p), self.found.reducers, hasty=True)
 
     def holds(self, p):
         """Whether a polynomial is in the ideal."""

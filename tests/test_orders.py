@@ -1,6 +1,7 @@
 """Point 3: rings, monomials and their orders."""
 import unittest
 from itertools import product
+from math import comb
 
 from idealcore.errors import BadInteger, BadMonomial, BadRing
 from idealcore.orders import compare, monomial_lcm, monomial_quotient, monomials, order_rows
@@ -82,7 +83,9 @@ class Orders(unittest.TestCase):
                 everything = [m for m in product(range(degree + 1), repeat=ring[1]) if sum(m) <= degree]
                 self.assertEqual(sorted(found), sorted(everything))
                 self.assertTrue(all(compare(ring, a, b) == -1 for a, b in zip(found, found[1:])))
-        self.assertEqual(len(monomials((0, 4, "lex"), 12)), 1820)
+            found = monomials(ring, 12)
+            self.assertEqual(len(set(found)), comb(12 + ring[1], 12))
+            self.assertTrue(all(compare(ring, a, b) == -1 for a, b in zip(found, found[1:])))
         self.assertEqual(monomials((0, 1, "lex"), 12), [(k,) for k in range(13)])
         for degree in (-1, 13, True, False, None, "2", (2,)):
             self.assertRaises(BadInteger, monomials, (0, 2, "lex"), degree)
