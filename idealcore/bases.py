@@ -1,6 +1,6 @@
 """Bases of ideals."""
-from idealcore.checks import MOST_DIVISORS, check_generators, check_integer_in, check_polynomial, check_polynomials
-from idealcore.checks import check_ring
+from idealcore.checks import MOST_DIVISORS, check_generators, check_integer_in, check_polynomials, check_ring
+from idealcore.checks import check_two_polynomials
 from idealcore.completion import is_complete, reduced_basis
 from idealcore.division import cofactors_and_rest
 from idealcore.exponents import monomials_up_to
@@ -10,9 +10,7 @@ from idealcore.reducing import monic, reducers_of, s_value
 
 def s_polynomial(ring, p, q):
     """The S-polynomial of two polynomials."""
-    coding = check_ring(ring)
-    check_polynomial(coding, p)
-    check_polynomial(coding, q)
+    coding = check_two_polynomials(ring, p, q)
     return unpacked(coding, s_packed(coding, p, q))
 
 

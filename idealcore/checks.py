@@ -5,8 +5,9 @@ The functions is_.. tell whether any value is of a kind, the functions check_.. 
 from math import gcd
 
 from idealcore.coding import Coding, rows_of
-from idealcore.errors import BadField, BadInteger, BadMonomial, BadNumber, BadPoint, BadPolynomial, BadPolynomials
-from idealcore.errors import BadRing, BadTerms, BadVariable, OtherRing
+from idealcore.errors import BadField, BadInteger, BadMonomial, BadNumber, BadPlaces, BadPoint, BadPolynomial
+from idealcore.errors import BadPolynomials, BadRank, BadRing, BadTerms, BadValues, BadVariable, BadVector, BadVectors
+from idealcore.errors import NotEven, OtherRing
 from idealcore.fields import zero_of
 
 PRIMES = (2, 3, 5, 7, 11, 13, 17, 19, 23, 29, 31)
@@ -18,6 +19,10 @@ MOST_TERMS = 500
 MOST_LOOSE_TERMS = 200
 MOST_GENERATORS = 12
 MOST_DIVISORS = 40
+MOST_RANK = 12
+MOST_VECTORS = 12
+MOST_VALUES = 13
+MOST_VALUE = 1000000
 
 
 def is_integer(value):
@@ -110,6 +115,18 @@ def is_row_of_polynomials(coding, value, many):
     return is_tuple_of(value, many) and all(is_polynomial(coding, p) for p in value)
 
 
+def is_row_of_indexes(value, many):
+    """Whether a value is an ascending tuple of different integers from 0 to many - 1."""
+    if not isinstance(value, tuple) or not all(is_integer_in(place, 0, many - 1) for place in value):
+        return False
+    return all(value[k] < value[k + 1] for k in range(len(value) - 1))
+
+
+def is_even(p):
+    """Whether the monomials of a polynomial have one degree."""
+    return len(p) == 0 or all(sum(monomial) == sum(p[0][1]) for _, monomial in p)
+
+
 def check_field(value):
     """BadField for what is not a field."""
     if not is_field(value):
@@ -183,6 +200,14 @@ def check_polynomial(coding, value):
         raise BadPolynomial("not a polynomial of the ring")
 
 
+def check_two_polynomials(ring, p, q):
+    """The coding of a ring, if p and q are polynomials of it."""
+    coding = check_ring(ring)
+    check_polynomial(coding, p)
+    check_polynomial(coding, q)
+    return coding
+
+
 def check_each(coding, value):
     """BadPolynomials with the index of the first thing in a tuple that is not a polynomial of the ring."""
     for index, p in enumerate(value):
@@ -200,3 +225,71 @@ def check_polynomials(coding, value, most):
 def check_generators(coding, value):
     """BadPolynomials for what are not generators."""
     check_polynomials(coding, value, MOST_GENERATORS)
+
+
+def check_two_lots(ring, one, other):
+    """The coding of a ring, if both lots are generators of it."""
+    coding = check_ring(ring)
+    check_generators(coding, one)
+    check_generators(coding, other)
+    return coding
+
+
+def check_even_ideal(ring, polys):
+    """The coding of a ring, if polys are generators of it: NotEven if the monomials of one have several degrees."""
+    coding = check_ring(ring)
+    check_generators(coding, polys)
+    for index, p in enumerate(polys):
+        if not is_even(p):
+            raise NotEven(index)
+    return coding
+
+
+def check_target(coding, value):
+    """The coding of a ring of the same field: BadRing, OtherRing."""
+    aim = check_ring(value)
+    if aim.field != coding.field:
+        raise OtherRing("another field")
+    return aim
+
+
+def check_images(coding, aim, values):
+    """BadPolynomials for what is not a tuple with a polynomial of another ring for each variable."""
+    if not is_tuple_of(values, coding.many):
+        raise BadPolynomials(None)
+    check_each(aim, values)
+
+
+def check_some_places(coding, value):
+    """BadPlaces for what is not an ascending tuple of indexes of variables, fewer than all."""
+    if not is_row_of_indexes(value, coding.many) or len(value) == coding.many:
+        raise BadPlaces("not an ascending tuple of indexes of variables, fewer than all")
+
+
+def check_rank(value):
+    """BadRank for what is not a rank."""
+    if not is_integer_in(value, 1, MOST_RANK):
+        raise BadRank(f"not an integer from 1 to {MOST_RANK}")
+
+
+def check_vector(coding, rank, value):
+    """BadVector for what is not a vector of the rank."""
+    if not is_row_of_polynomials(coding, value, rank):
+        raise BadVector("not a vector of the rank")
+
+
+def check_vectors(coding, rank, value):
+    """BadVectors for what are not vectors of the rank."""
+    if not is_tuple_up_to(value, MOST_VECTORS):
+        raise BadVectors(None)
+    for index, vector in enumerate(value):
+        if not is_row_of_polynomials(coding, vector, rank):
+            raise BadVectors(index)
+
+
+def check_values(value):
+    """BadValues for what are not values."""
+    if not is_tuple_up_to(value, MOST_VALUES) or len(value) == 0:
+        raise BadValues(f"not a tuple of 1 to {MOST_VALUES} integers")
+    if not all(is_integer_in(number, 0, MOST_VALUE) for number in value):
+        raise BadValues(f"not integers from 0 to {MOST_VALUE}")

@@ -6,7 +6,7 @@ in orders like "lex".  If 1 is put in the place of the additional variable, a ba
 """
 from heapq import heapify, heappop, heappush
 
-from idealcore.coding import lifted_coding, lowered
+from idealcore.coding import Lift
 from idealcore.packed import lowest
 from idealcore.reducing import divided, reducer_of, reducers_of, rest_table, s_value
 
@@ -52,7 +52,8 @@ class Pile:
     def new_pairs(self, new):
         """The pairs of a new reducer that do not follow from others."""
         head = self.head(new)
-        commons = [(self.coding.lcm(head, self.head(index)), index) for index in self.alive]
+        mates = [index for index in self.alive if not self.coding.is_apart(head, self.head(index))]
+        commons = [(self.coding.lcm(head, self.head(index)), index) for index in mates]
         # Where common multiples are equal, one that is the product comes first: it makes the others needless.
         ranked = sorted([(common, common != head + self.head(index), index) for common, index in commons])
         kept = []
@@ -74,35 +75,54 @@ class Completion:
     """
 
     def __init__(self, coding, generators):
-        self.coding = coding
-        self.high = lifted_coding(coding)
-        self.generators = [self.lifted(value) for value in generators]
+        self.lift = Lift(coding)
+        self.high = self.lift.high
+        self.generators = [self.lift.lifted(value) for value in generators]
         self.history = []
+        self.needed = []
+        self.waiting = 0
         self.pile = Pile(self.high)
-        # A generator waits for its degree as a pair with -1 and its index.
+        # A generator waits for the end of its degree as a pair with -1 and its index.
         for index, (table, _) in enumerate(self.generators):
             if table:
-                heappush(self.pile.pairs, (max(table), -1, index))
-
-    def lifted(self, value):
-        """A packed polynomial with powers of the additional variable, such that there is one degree only."""
-        rows = [(self.coding.exponents(code), n) for code, n in value[0].items()]
-        top = max([sum(exponents) for exponents, _ in rows], default=0)
-        return ({self.high.code(exponents + (top - sum(exponents),)): n for exponents, n in rows}, value[1])
+                heappush(self.pile.pairs, (self.lift.last_of_degree(max(table)), -1, index))
+                self.waiting += 1
 
     def run(self):
-        """Takes pairs until none is left, or until 1 is known to be in the ideal."""
+        """Takes pairs until none is left."""
+        while self.pile.pairs:
+            self.take()
+
+    def needed_generators(self):
+        """The indexes of the generators that are not in the ideal of those ahead of them, by ascending degrees.
+
+        Each generator must have monomials of one degree.
+        """
+        while self.pile.pairs and self.waiting:
+            self.take()
+        return self.needed
+
+    def take(self):
+        """Takes the least pair and keeps what its division leaves; no pair is left if this is 1.
+
+        Returns whether there is such a rest.
+        """
         pile = self.pile
-        while pile.pairs:
-            _, one, other = heappop(pile.pairs)
-            value, history = self.start(one, other)
-            rest, steps = divided(self.high, value, pile.living())
-            if rest:
-                many = len(self.generators)
-                history += [(many + pile.alive[index], code, -n, d) for index, code, n, d in steps]
-                self.keep(rest_table(rest), history)
-                if self.low(rest[0][0]) == 0:
-                    pile.pairs = []
+        _, one, other = heappop(pile.pairs)
+        if one < 0:
+            self.waiting -= 1
+        value, history = self.start(one, other)
+        rest, steps = divided(self.high, value, pile.living())
+        if not rest:
+            return False
+        many = len(self.generators)
+        history += [(many + pile.alive[index], code, -n, d) for index, code, n, d in steps]
+        self.keep(rest_table(rest), history)
+        if one < 0:
+            self.needed.append(other)
+        if self.lift.lowered(rest[0][0]) == 0:
+            pile.pairs = []
+        return True
 
     def start(self, one, other):
         """The packed polynomial of a pair, and the history of it."""
@@ -117,19 +137,15 @@ class Completion:
         """Keeps a packed polynomial as a new reducer."""
         reducer, n, d = reducer_of(self.high.field, value[0])
         n = n * value[1]
-        self.history.append([(source, self.low(code), m * n, e * d) for source, code, m, e in history])
+        self.history.append([(source, self.lift.lowered(code), m * n, e * d) for source, code, m, e in history])
         self.pile.put(reducer)
-
-    def low(self, code):
-        """The code of a monomial without the additional variable."""
-        return lowered(self.coding, self.high, code)
 
     def low_pairs(self):
         """The pairs of a reducer and its source that are a basis, the additional variable being left out."""
         many = len(self.generators)
         pairs = []
         for index in self.pile.alive:
-            reducer = [(self.low(code), n) for code, n in self.pile.reducers[index]]
+            reducer = [(self.lift.lowered(code), n) for code, n in self.pile.reducers[index]]
             pairs.append((reducer, many + index))
         return pairs
 
@@ -178,7 +194,11 @@ def found_basis(coding, generators):
 
 def reduced_basis(coding, generators):
     """The reducers of the reduced basis of generators, by ascending leading monomials."""
-    reducers = found_basis(coding, generators).reducers
+    return reduced_among(coding, found_basis(coding, generators).reducers)
+
+
+def reduced_among(coding, reducers):
+    """The reducers of a basis without terms that leading monomials of others divide."""
     return [without_divisible(coding, reducer, reducers) for reducer in reducers]
 
 

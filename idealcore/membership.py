@@ -1,11 +1,11 @@
 """Which polynomials are in an ideal, with certificates."""
 from idealcore.bases import are_basis, reducers_of_ideal
 from idealcore.checks import MOST_DIVISORS, check_generators, check_polynomial, check_ring, is_row_of_polynomials
-from idealcore.checks import is_tuple_of, is_tuple_up_to
+from idealcore.checks import check_two_lots, is_tuple_of, is_tuple_up_to
 from idealcore.division import cofactors_and_rest
 from idealcore.packed import packed, products_sum, same_packed
 from idealcore.reducing import divided, monic, rest_polynomial
-from idealcore.tracing import Tracer
+from idealcore.tracing import cofactors, tracer_of
 
 
 def basis_certificate(ring, polys):
@@ -13,12 +13,12 @@ def basis_certificate(ring, polys):
     coding = check_ring(ring)
     check_generators(coding, polys)
     some = tuple([monic(coding, reducer) for reducer in reducers_of_ideal(coding, polys)])
-    tracer = Tracer(coding, polys)
-    ahead = tuple([tracer.cofactors(p) for p in some])
+    tracer = tracer_of(coding, polys)
+    ahead = tuple([cofactors(coding, tracer, packed(tracer.plain, p)) for p in some])
     back = []
     for p in polys:
-        cofactors, _ = cofactors_and_rest(coding, packed(coding, p), some)
-        back.append(tuple(cofactors))
+        row, _ = cofactors_and_rest(coding, packed(coding, p), some)
+        back.append(tuple(row))
     return (some, ahead, tuple(back))
 
 
@@ -61,7 +61,8 @@ def member(ring, polys, p):
     coding = check_ring(ring)
     check_generators(coding, polys)
     check_polynomial(coding, p)
-    return Tracer(coding, polys).cofactors(p)
+    tracer = tracer_of(coding, polys)
+    return cofactors(coding, tracer, packed(tracer.plain, p))
 
 
 def shows_member(ring, polys, p, value):
@@ -70,14 +71,6 @@ def shows_member(ring, polys, p, value):
     check_generators(coding, polys)
     check_polynomial(coding, p)
     return tells(coding, value, polys, p)
-
-
-def check_two_lots(ring, one, other):
-    """The coding of a ring, if both lots are generators."""
-    coding = check_ring(ring)
-    check_generators(coding, one)
-    check_generators(coding, other)
-    return coding
 
 
 def outsider(ring, one, other):
@@ -93,8 +86,8 @@ def same_ideal(ring, one, other):
 
 def first_outside(coding, one, other):
     """The index of the first polynomial of one that is not in the ideal of other, None if there is none."""
-    tracer = Tracer(coding, other)
+    tracer = tracer_of(coding, other)
     for index, p in enumerate(one):
-        if not tracer.holds(p):
+        if not tracer.holds(packed(tracer.plain, p)):
             return index
     return None

@@ -28,6 +28,11 @@ def unpacked(coding, value):
     return tuple([(make_number(coding.field, kept[code], below), coding.exponents(code)) for code in codes])
 
 
+def recoded(coding, other, value):
+    """The packed form, by another coding of the same monomials, of a packed polynomial."""
+    return ({other.code(coding.exponents(code)): n for code, n in value[0].items()}, value[1])
+
+
 def sum_of_terms(coding, terms):
     """The polynomial that is the sum of some terms, zero ones and equal monomials among them."""
     field = coding.field

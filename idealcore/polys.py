@@ -1,7 +1,6 @@
 """Polynomials and the arithmetic with them."""
-from idealcore.checks import check_integer_in, check_number, check_point, check_polynomial, check_ring
-from idealcore.checks import check_ring_alike, check_terms, check_variable, is_tuple_of, check_each
-from idealcore.errors import BadPolynomials, OtherRing
+from idealcore.checks import check_images, check_integer_in, check_number, check_point, check_polynomial, check_ring
+from idealcore.checks import check_ring_alike, check_target, check_terms, check_two_polynomials, check_variable
 from idealcore.exponents import shifted
 from idealcore.fields import as_fraction, make_number, multiply_numbers, negate_number
 from idealcore.packed import combination, packed, packed_product, sum_of_terms, unpacked
@@ -16,30 +15,22 @@ def polynomial(ring, terms):
     return sum_of_terms(coding, terms)
 
 
-def check_two(ring, p, q):
-    """The coding of a ring, if p and q are polynomials of it."""
-    coding = check_ring(ring)
-    check_polynomial(coding, p)
-    check_polynomial(coding, q)
-    return coding
-
-
 def plus(ring, p, q):
     """The sum."""
-    coding = check_two(ring, p, q)
+    coding = check_two_polynomials(ring, p, q)
     return sum_of_terms(coding, p + q)
 
 
 def minus(ring, p, q):
     """The difference."""
-    coding = check_two(ring, p, q)
+    coding = check_two_polynomials(ring, p, q)
     negative = [(negate_number(coding.field, number), monomial) for number, monomial in q]
     return sum_of_terms(coding, list(p) + negative)
 
 
 def times(ring, p, q):
     """The product."""
-    coding = check_two(ring, p, q)
+    coding = check_two_polynomials(ring, p, q)
     return unpacked(coding, packed_product(coding.field, packed(coding, p), packed(coding, q)))
 
 
@@ -124,21 +115,12 @@ def derivative(ring, p, place):
     return sum_of_terms(coding, terms)
 
 
-def check_values(coding, target, values):
-    """BadPolynomials for what is not a tuple with a polynomial of the target for each variable."""
-    if not is_tuple_of(values, coding.many):
-        raise BadPolynomials(None)
-    check_each(target, values)
-
-
 def substitute(ring, p, target, values):
     """The polynomial of the target that comes from p by putting polynomials in the places of the variables."""
     coding = check_ring(ring)
     check_polynomial(coding, p)
-    aim = check_ring(target)
-    if aim.field != coding.field:
-        raise OtherRing("another field")
-    check_values(coding, aim, values)
+    aim = check_target(coding, target)
+    check_images(coding, aim, values)
     highest = [max([monomial[k] for _, monomial in p], default=0) for k in range(coding.many)]
     powers = [powers_up_to(aim.field, packed(aim, value), most) for value, most in zip(values, highest)]
     return unpacked(aim, put_in(coding, p, aim.field, powers))

@@ -37,6 +37,11 @@ def reducers_of(field, values):
     return found
 
 
+def table_of(reducer):
+    """The packed polynomial of a reducer."""
+    return (dict(reducer), 1)
+
+
 def monic(coding, reducer):
     """The polynomial of a reducer, with the leading number 1."""
     first = reducer[0][1]

@@ -12,34 +12,30 @@ from idealcore.reducing import divided
 class Tracer:
     """The ideal of generators, prepared for questions which polynomials are in it.
 
-    A row is a list of cofactors, packed polynomials, one for each generator.
+    All polynomials are packed.  A row is a list of cofactors, one for each generator.
     """
 
-    def __init__(self, coding, polys):
-        self.coding = coding
-        self.plain = plain_coding(coding)
-        self.many = len(polys)
-        self.found = found_basis(self.plain, [packed(self.plain, p) for p in polys])
+    def __init__(self, plain, generators):
+        self.plain = plain
+        self.many = len(generators)
+        self.found = found_basis(plain, generators)
 
-    def division(self, p):
+    def division(self, value):
         """The rest, or its first term, and the steps of the division of a polynomial by the basis."""
-        return divided(self.plain, packed(self.plain, p), self.found.reducers, hasty=True)
+        return divided(self.plain, value, self.found.reducers, hasty=True)
 
-    def holds(self, p):
+    def holds(self, value):
         """Whether a polynomial is in the ideal."""
-        rest, _ = self.division(p)
+        rest, _ = self.division(value)
         return not rest
 
-    def cofactors(self, p):
-        """The tuple of the cofactors of a polynomial, None if it is not in the ideal."""
-        rest, steps = self.division(p)
+    def row(self, value):
+        """The row of a polynomial, None if it is not in the ideal."""
+        rest, steps = self.division(value)
         if rest:
             return None
         parts = [(self.found.sources[index], code, n, d) for index, code, n, d in steps]
-        rows = self.rows_of_sources([source for source, _, _, _ in parts])
-        row = self.mixed_row(parts, rows)
-        # What is sorted by the order "degrevlex" is put into the order of the ring.
-        return tuple([sum_of_terms(self.coding, unpacked(self.plain, value)) for value in row])
+        return self.mixed_row(parts, self.rows_of_sources([source for source, _, _, _ in parts]))
 
     def rows_of_sources(self, wanted):
         """A dict with the rows of at least the wanted sources."""
@@ -68,3 +64,22 @@ class Tracer:
             chosen = [(n, d, code, rows[source][index]) for source, code, n, d in parts if rows[source][index][0]]
             row.append(combination(self.plain.field, chosen))
         return row
+
+
+def tracer_of(coding, polys):
+    """The tracer of the ideal of polynomials of the ring."""
+    plain = plain_coding(coding)
+    return Tracer(plain, [packed(plain, p) for p in polys])
+
+
+def cofactors(coding, tracer, value):
+    """The tuple of the cofactors, polynomials of the ring, of a packed one; None if it is not in the ideal."""
+    row = tracer.row(value)
+    if row is None:
+        return None
+    found = []
+    for factor in row:
+        terms = unpacked(tracer.plain, factor)
+        # What is sorted by the order "degrevlex" is put into the order of the ring, and marks of places are dropped.
+        found.append(sum_of_terms(coding, [(number, monomial[:coding.many]) for number, monomial in terms]))
+    return tuple(found)
