@@ -2,7 +2,8 @@
 import copy
 import unittest
 
-from idealcore import bases, division, errors, membership, numbers, orders, polys, texts
+from idealcore import bases, division, eliminating, errors, growth, hilbert, ideals, membership, numbers, orders, polys
+from idealcore import resolutions, resultants, syzygies, texts, vectors
 
 RING = (0, 2, "lex")
 X = (((1, 1), (1, 0)),)
@@ -35,11 +36,25 @@ WRONG = {
     "text": ("NotText", [7, True, None, (), ("x",), [], ["x"], {}, {"x": 1}]),
     "point": ("BadPoint", [7, "x", True, None, (), ((1, 1),), ((1, 1), (1, 1), (1, 1)), ((1, 1), (2, 2)), (1, 1),
                            [(1, 1), (1, 1)], {}, ((1, 1), None)]),
+    "exponent": ("BadInteger", [-1, 5, True, False, None, "1", (), (1,), [1], {}]),
+    "many": ("BadInteger", [0, 7, -1, True, False, None, "1", (), (1,), [1], {}]),
+    "amount": ("BadInteger", [-1, 1000001, True, False, None, "1", (), (1,), [1], {}]),
+    "level": ("BadInteger", [0, 13, -1, True, False, None, "1", (), (1,), [1], {}]),
+    "far degree": ("BadInteger", [-1, 41, True, False, None, "1", (), (1,), [1], {}]),
+    "values": ("BadValues", [(), None, 1, True, "1", [], [1], {}, {0: 1}, (1, None), (1, True), (-1,), (1000001,),
+                             (1,) * 14, ("1",), ((1,),)]),
+    "places": ("BadPlaces", [(0, 1), (0, 0), (1, 0), (True,), (2,), (-1,), [0], [], None, 0, "0", {}, (None,)]),
+    "rank": ("BadRank", [0, 13, -1, True, False, None, "1", (), (1,), [1], {}]),
+    "vector": ("BadVector", [7, "x", True, None, (), X, (X,), (X, X, X), [X, X], {}, (X, None), (None, X), (X, [X]),
+                             (X, X + X), (X, ((1, (1, 0)),))]),
     "variable": ("BadVariable", [-1, 2, True, False, None, "x", (), (0,), [0], {}]),
 }
 BIG = {"terms": ("BadTerms", 200, ((1, 1), (1, 0)), [7, None, (), ((1, 1),), ((1, 1), (1,)), [(1, 1), (1, 0)],
                                                       (1, (1, 0)), ((1, 1), (1, 0), 1), ((2, 2), (1, 0)), {}]),
        "generators": ("BadPolynomials", 12, X, [7, None, True, "x", [], {}, X + X, ((1, (1, 0)),)]),
+       "even": ("BadPolynomials", 12, X, [7, None, True, "x", [], {}, X + X, ((1, (1, 0)),)]),
+       "vectors": ("BadVectors", 12, (X, Y), [7, None, True, "x", [], {}, (X,), (X, X, X), [X, X], (X, None), X,
+                                              (X, Y + X)]),
        "divisors": ("BadPolynomials", 40, X, [7, None, False, "x", [], {}, Y + X, (((1, 1), (1,)),)])}
 
 # Each function with arguments that are allowed, and the kinds of those that are checked.
@@ -85,6 +100,43 @@ CALLS = [
     (membership.shows_member, (RING, (P, X), Y, None), ("ring", "generators", "polynomial", None)),
     (membership.outsider, (RING, (P, X), (X,)), ("ring", "generators", "generators")),
     (membership.same_ideal, (RING, (P, X), (X,)), ("ring", "generators", "generators")),
+    (ideals.ideal_sum, (RING, (P, X), (Y,)), ("ring", "generators", "generators")),
+    (ideals.ideal_product, (RING, (P, X), (Y,)), ("ring", "generators", "generators")),
+    (ideals.ideal_power, (RING, (P, X), 2), ("ring", "generators", "exponent")),
+    (ideals.meet, (RING, (P, X), (Y,)), ("ring", "generators", "generators")),
+    (ideals.quotient, (RING, (P, X), (Y,)), ("ring", "generators", "generators")),
+    (ideals.saturation, (RING, (P, X), Y), ("ring", "generators", "polynomial")),
+    (ideals.in_radical, (RING, (P, X), Y), ("ring", "generators", "polynomial")),
+    (eliminating.eliminate, (RING, (P, X), (0,)), ("ring", "generators", "places")),
+    (eliminating.kernel, (RING, RING, (P, X)), ("ring", "ring", None)),
+    (eliminating.preimage, (RING, RING, (P, X), (Y, X)), ("ring", "ring", None, "generators")),
+    (eliminating.in_image, (RING, RING, (P, X), Y), ("ring", "ring", None, "polynomial")),
+    (resultants.resultant, (RING, P, X, 0), ("ring", "polynomial", "polynomial", "variable")),
+    (resultants.common_multiple, (RING, P, X), ("ring", "polynomial", "polynomial")),
+    (resultants.common_divisor, (RING, P, X), ("ring", "polynomial", "polynomial")),
+    (vectors.module_basis, (RING, 2, ((X, Y), (P, ()))), ("ring", "rank", "vectors")),
+    (vectors.module_normal_form, (RING, 2, ((X, Y), (P, ())), (Y, X)), ("ring", "rank", "vectors", "vector")),
+    (vectors.module_member, (RING, 2, ((X, Y), (P, ())), (P, ())), ("ring", "rank", "vectors", "vector")),
+    (vectors.shows_module_member, (RING, 2, ((X, Y),), (X, Y), None), ("ring", "rank", "vectors", "vector", None)),
+    (syzygies.syzygies, (RING, (P, X)), ("ring", "generators")),
+    (syzygies.vector_syzygies, (RING, 2, ((X, Y), (X, Y))), ("ring", "rank", "vectors")),
+    (syzygies.s_syzygies, (RING, (X, Y)), ("ring", "generators")),
+    (resolutions.minimal_generators, (RING, (X, Y)), ("ring", "even")),
+    (resolutions.resolution, (RING, (X, Y)), ("ring", "even")),
+    (resolutions.shows_resolution, (RING, (X, Y), None), ("ring", "even", None)),
+    (resolutions.betti_numbers, (RING, (X, Y)), ("ring", "even")),
+    (resolutions.regularity, (RING, (X, Y)), ("ring", "even")),
+    (hilbert.hilbert_function, (RING, (X, Y), 3), ("ring", "even", "far degree")),
+    (hilbert.hilbert_numerator, (RING, (X, Y)), ("ring", "even")),
+    (hilbert.hilbert_polynomial, (RING, (X, Y)), ("ring", "even")),
+    (hilbert.hilbert_stays, (RING, (X, Y)), ("ring", "even")),
+    (hilbert.multiplicity, (RING, (X, Y)), ("ring", "even")),
+    (hilbert.independent_sets, (RING, (P, X)), ("ring", "generators")),
+    (hilbert.dimension, (RING, (P, X)), ("ring", "generators")),
+    (growth.expansion, (11, 3), ("amount", "level")),
+    (growth.grown, (11, 3), ("amount", "level")),
+    (growth.growth_gap, (2, (1, 2, 2)), ("many", "values")),
+    (growth.lex_ideal, (2, (1, 2, 2)), ("many", "values")),
 ]
 
 
@@ -103,6 +155,8 @@ def wrong_values(kind):
         for ahead in (0, 1, most - 1):
             found.append((getattr(errors, name), {"index": ahead}, (good,) * ahead + (value,)))
         found.append((getattr(errors, name), {"index": 1}, (good, value, None)))
+    if kind == "even":
+        found += [(errors.NotEven, {"index": index}, (good,) * index + (P,)) for index in (0, 1, most - 1)]
     return found
 
 
@@ -168,7 +222,9 @@ class Arguments(unittest.TestCase):
 
     def test_returned_lists_are_new(self):
         for function, arguments in ((orders.monomials, (RING, 2)), (polys.parts, (RING, P)),
-                                    (bases.standard_monomials, (RING, (P, X), 3))):
+                                    (bases.standard_monomials, (RING, (P, X), 3)),
+                                    (syzygies.s_syzygies, (RING, (X, Y))), (resolutions.betti_numbers, (RING, (X, Y))),
+                                    (hilbert.independent_sets, (RING, (P, X)))):
             first = function(*arguments)
             kept = list(first)
             first.append(None)

@@ -3,13 +3,22 @@ import unittest
 
 from idealcore.bases import basis, basis_gap, is_basis, leading_monomials, s_polynomial, standard_monomials
 from idealcore.division import divide
+from idealcore.eliminating import eliminate, in_image, kernel, preimage
 from idealcore.errors import InvalidText
+from idealcore.growth import expansion, growth_gap, grown, lex_ideal
+from idealcore.hilbert import dimension, hilbert_function, hilbert_numerator, hilbert_polynomial, hilbert_stays
+from idealcore.hilbert import independent_sets, multiplicity
+from idealcore.ideals import ideal_power, ideal_product, ideal_sum, in_radical, meet, quotient, saturation
 from idealcore.membership import member, normal_form, outsider, same_ideal, shows_basis, shows_member
 from idealcore.numbers import number, number_inverse, number_product, number_sum
 from idealcore.orders import compare, monomial_lcm, monomial_quotient, monomials
 from idealcore.polys import degree, derivative, evaluate, leading, minus, parts, plus, polynomial, power, reordered
 from idealcore.polys import scaled, substitute, times
+from idealcore.resolutions import betti_numbers, minimal_generators, regularity, shows_resolution
+from idealcore.resultants import common_divisor, common_multiple, resultant
+from idealcore.syzygies import s_syzygies, syzygies, vector_syzygies
 from idealcore.texts import read, write
+from idealcore.vectors import module_basis, module_member, module_normal_form, shows_module_member
 
 
 class Examples(unittest.TestCase):
@@ -83,6 +92,79 @@ class Examples(unittest.TestCase):
         self.assertEqual([outsider(ring, (p, x), (p, q)), same_ideal(ring, (x, p), (x, ((1, (0, 1)),))),
                           shows_basis(ring, (x,), ((x,), ((((1, (0, 0)),),),), ((((1, (0, 0)),),),)))],
                          [1, True, True])
+
+    def test_ideals(self):
+        ring = (3, 2, "lex")
+        x, y, xy, xx = ((1, (1, 0)),), ((1, (0, 1)),), ((1, (1, 1)),), ((1, (2, 0)),)
+        self.assertEqual([ideal_sum(ring, (xx,), (x,)), ideal_product(ring, (x, y), (x,)),
+                          ideal_power(ring, (x, y), 2), meet(ring, (x,), (y,))],
+                         [(((1, (1, 0)),),), (((1, (1, 1)),), ((1, (2, 0)),)),
+                          (((1, (0, 2)),), ((1, (1, 1)),), ((1, (2, 0)),)), (((1, (1, 1)),),)])
+        self.assertEqual([quotient(ring, (xy, xx), (x,)), saturation(ring, (xy, xx), y),
+                          saturation(ring, (xy, xx), x), in_radical(ring, (xy, xx), x),
+                          in_radical(ring, (xy, xx), y)],
+                         [(((1, (0, 1)),), ((1, (1, 0)),)), (1, (((1, (1, 0)),),)), (2, (((1, (0, 0)),),)), 2, None])
+
+    def test_eliminating(self):
+        ring, line = (5, 2, "lex"), (5, 1, "lex")
+        one, two, three = ((1, (1,)),), ((1, (2,)),), ((1, (3,)),)
+        self.assertEqual([eliminate(ring, (((1, (1, 0)), (4, (0, 1))), ((1, (1, 1)), (4, (0, 0)))), (0,)),
+                          kernel(ring, line, (two, three)), preimage(ring, line, (two, three), (one,))],
+                         [(((1, (0, 2)), (4, (0, 0))),), (((1, (3, 0)), (4, (0, 2))),),
+                          (((1, (0, 1)),), ((1, (1, 0)),))])
+        self.assertEqual([in_image(ring, line, (two, three), one),
+                          in_image(line, line, (two,), ((1, (4,)), (2, (0,))))], [None, ((1, (2,)), (2, (0,)))])
+
+    def test_resultants(self):
+        ring = (5, 2, "lex")
+        p, q = ((1, (1, 0)), (4, (0, 1))), ((1, (1, 0)), (1, (0, 1)))
+        self.assertEqual([resultant(ring, p, q, 0), resultant(ring, p, p, 0),
+                          resultant(ring, p, ((2, (0, 0)),), 0), resultant(ring, (), q, 1)],
+                         [((2, (0, 1)),), (), ((2, (0, 0)),), ()])
+        self.assertEqual([common_multiple(ring, p, q), common_divisor(ring, p, q),
+                          common_divisor(ring, ((2, (1, 0)),), ())],
+                         [((1, (2, 0)), (4, (0, 2))), ((1, (0, 0)),), ((1, (1, 0)),)])
+
+    def test_vectors(self):
+        ring = (3, 1, "lex")
+        x, one = ((1, (1,)),), ((1, (0,)),)
+        self.assertEqual([module_basis(ring, 2, ((x, one), (one, ()))),
+                          module_normal_form(ring, 2, ((x, one),), (x, ())),
+                          module_member(ring, 2, ((x, one),), (x, ()))],
+                         [(((), ((1, (0,)),)), (((1, (0,)),), ())), ((), ((2, (0,)),)), None])
+        self.assertIs(shows_module_member(ring, 2, ((x, one), (one, ())), ((), one), (one, ((2, (1,)),))), True)
+
+    def test_syzygies(self):
+        ring = (3, 2, "lex")
+        x, y = ((1, (1, 0)),), ((1, (0, 1)),)
+        self.assertEqual([syzygies(ring, (x, y)), s_syzygies(ring, (x, y)),
+                          vector_syzygies(ring, 2, ((x, y), (y, x))), syzygies(ring, (x, ()))],
+                         [((((2, (0, 1)),), ((1, (1, 0)),)),), [(((1, (0, 1)),), ((2, (1, 0)),))], (),
+                          (((), ((1, (0, 0)),)),)])
+
+    def test_resolutions(self):
+        ring = (3, 2, "lex")
+        x, y, xy = ((1, (1, 0)),), ((1, (0, 1)),), ((1, (1, 1)),)
+        self.assertEqual([minimal_generators(ring, (xy, x, y)), betti_numbers(ring, (xy, x, y)),
+                          regularity(ring, (xy,)), betti_numbers(ring, ())],
+                         [(1, 2), [(0, 0, 1), (1, 1, 2), (2, 2, 1)], 1, [(0, 0, 1)]])
+        self.assertEqual([shows_resolution(ring, (x, y), (((x,), (y,)), ((y, ((2, (1, 0)),)),))),
+                          shows_resolution(ring, (x, y), (((x,), (y,)),))], [True, False])
+
+    def test_hilbert(self):
+        ring = (3, 2, "lex")
+        x, y, xy, xx = ((1, (1, 0)),), ((1, (0, 1)),), ((1, (1, 1)),), ((1, (2, 0)),)
+        self.assertEqual([hilbert_function(ring, (xx, xy), 4), hilbert_numerator(ring, (xx, xy)),
+                          hilbert_polynomial(ring, (xx, xy)), hilbert_stays(ring, (xx, xy))],
+                         [(1, 2, 1, 1, 1), (1, 0, -2, 1), (1,), 2])
+        self.assertEqual([multiplicity(ring, (xx, xy)), multiplicity(ring, (xy,)), dimension(ring, (xy,)),
+                          independent_sets(ring, (xy,)), dimension(ring, (x, y)), hilbert_polynomial(ring, ())],
+                         [1, 2, 1, [(0,), (1,)], 0, (1, 1)])
+
+    def test_growth(self):
+        self.assertEqual([expansion(11, 3), grown(11, 3), growth_gap(2, (1, 2, 3, 3, 4)),
+                          growth_gap(2, (1, 2, 2, 2)), lex_ideal(2, (1, 2, 2, 1))],
+                         [(5, 2), 16, 4, None, ((2, 0), (1, 2))])
 
 
 if __name__ == "__main__":

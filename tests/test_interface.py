@@ -1,0 +1,56 @@
+"""The interface of the document: each function stands in its own file and has the arguments that are listed."""
+import importlib
+import inspect
+import unittest
+
+INTERFACE = {
+    "numbers": ["number(field, n, d)", "number_sum(field, a, b)", "number_product(field, a, b)",
+                "number_inverse(field, a)"],
+    "orders": ["compare(ring, one, other)", "order_rows(ring)", "monomials(ring, degree)",
+               "monomial_lcm(ring, one, other)", "monomial_quotient(ring, one, other)"],
+    "polys": ["polynomial(ring, terms)", "plus(ring, p, q)", "minus(ring, p, q)", "times(ring, p, q)",
+              "scaled(ring, p, number)", "power(ring, p, exponent)", "leading(ring, p)", "degree(ring, p)",
+              "evaluate(ring, p, point)", "derivative(ring, p, place)", "substitute(ring, p, target, values)",
+              "reordered(ring, p, other)", "parts(ring, p)"],
+    "texts": ["write(ring, p)", "read(ring, text)"],
+    "division": ["divide(ring, p, divisors)"],
+    "bases": ["s_polynomial(ring, p, q)", "basis_gap(ring, polys)", "is_basis(ring, polys)", "basis(ring, polys)",
+              "leading_monomials(ring, polys)", "standard_monomials(ring, polys, degree)"],
+    "membership": ["basis_certificate(ring, polys)", "shows_basis(ring, polys, value)", "normal_form(ring, polys, p)",
+                   "member(ring, polys, p)", "shows_member(ring, polys, p, value)", "same_ideal(ring, one, other)",
+                   "outsider(ring, one, other)"],
+    "ideals": ["ideal_sum(ring, one, other)", "ideal_product(ring, one, other)", "ideal_power(ring, polys, exponent)",
+               "meet(ring, one, other)", "quotient(ring, one, other)", "saturation(ring, polys, p)",
+               "in_radical(ring, polys, p)"],
+    "eliminating": ["eliminate(ring, polys, places)", "kernel(ring, target, values)",
+                    "preimage(ring, target, values, polys)", "in_image(ring, target, values, p)"],
+    "resultants": ["resultant(ring, p, q, place)", "common_multiple(ring, p, q)", "common_divisor(ring, p, q)"],
+    "vectors": ["module_basis(ring, rank, vectors)", "module_normal_form(ring, rank, vectors, vector)",
+                "module_member(ring, rank, vectors, vector)",
+                "shows_module_member(ring, rank, vectors, vector, value)"],
+    "syzygies": ["syzygies(ring, polys)", "vector_syzygies(ring, rank, vectors)", "s_syzygies(ring, polys)"],
+    "resolutions": ["minimal_generators(ring, polys)", "resolution(ring, polys)",
+                    "shows_resolution(ring, polys, value)", "betti_numbers(ring, polys)", "regularity(ring, polys)"],
+    "hilbert": ["hilbert_function(ring, polys, degree)", "hilbert_numerator(ring, polys)",
+                "hilbert_polynomial(ring, polys)", "hilbert_stays(ring, polys)", "multiplicity(ring, polys)",
+                "independent_sets(ring, polys)", "dimension(ring, polys)"],
+    "growth": ["expansion(number, degree)", "grown(number, degree)", "growth_gap(many, values)",
+               "lex_ideal(many, values)"],
+}
+
+
+class Interface(unittest.TestCase):
+
+    def test_each_function(self):
+        for file, calls in INTERFACE.items():
+            module = importlib.import_module(f"idealcore.{file}")
+            for call in calls:
+                name = call.split("(")[0]
+                function = getattr(module, name)
+                self.assertTrue(inspect.isfunction(function), name)
+                self.assertEqual(function.__module__, f"idealcore.{file}", name)
+                self.assertEqual(f"{name}{inspect.signature(function)}", call)
+
+
+if __name__ == "__main__":
+    unittest.main()
