@@ -1,10 +1,12 @@
 """Bases of ideals."""
 from idealcore.checks import MOST_DIVISORS, check_generators, check_integer_in, check_polynomials, check_ring
 from idealcore.checks import check_two_polynomials
-from idealcore.completion import is_complete, reduced_basis
+from idealcore.coding import plain_coding
+from idealcore.completion import is_complete
 from idealcore.division import cofactors_and_rest
 from idealcore.exponents import monomials_up_to
 from idealcore.packed import packed, unpacked
+from idealcore.plain import reduced_basis_by
 from idealcore.reducing import monic, reducers_of, s_value
 
 
@@ -56,7 +58,7 @@ def are_basis(coding, polys):
 
 def reducers_of_ideal(coding, polys):
     """The reducers of the reduced basis of the ideal of some polynomials."""
-    return reduced_basis(coding, [packed(coding, p) for p in polys])
+    return reduced_basis_by(plain_coding(coding), coding, [packed(coding, p) for p in polys])
 
 
 def basis(ring, polys):

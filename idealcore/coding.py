@@ -61,6 +61,7 @@ class Coding:
         self.rows = rows
         self.grades = (1,) * many if grades is None else grades
         self.marks = marks
+        self.marks = marks
         self.shifts = [WIDTH * (many - 1 - k) for k in range(many)]
         self.units = [self.unit(place) for place in range(many)]
         self.marked = sum([MASK << self.shifts[k] for k in marks])
@@ -112,7 +113,7 @@ class Lift:
     def __init__(self, coding):
         rows = (coding.grades + (1,),) + tuple([row + (0,) for row in coding.rows])
         self.low = coding
-        self.high = Coding(coding.field, coding.many + 1, rows, marks=coding.marks)
+        self.high = Coding(coding.field, coding.many + 1, rows, rows[0], coding.marks)
         # The place of the degree is the highest one, that of the additional variable the lowest one.
         self.top = WIDTH * (len(rows) + coding.many)
         self.middle = (1 << self.top - WIDTH) - 1
@@ -127,9 +128,13 @@ class Lift:
         """The code of a monomial without the additional variable."""
         return (code >> WIDTH) & self.middle
 
+    def degree(self, code):
+        """The degree of a monomial with the additional variable."""
+        return code >> self.top
+
     def last_of_degree(self, code):
         """A code that is greater than those of all monomials of the same degree."""
-        return ((code >> self.top) + 1 << self.top) - 1
+        return (self.degree(code) + 1 << self.top) - 1
 
 
 def plain_coding(coding):

@@ -2,15 +2,20 @@
 
 All polynomials are packed in the order "degrevlex", and ideals are told by the reducers of a basis.
 """
-from idealcore.completion import found_basis, reduced_basis
+from idealcore.completion import completed_basis, reduced_among
 from idealcore.modules import Places
 from idealcore.packed import combination, packed_product
 from idealcore.reducing import divided, rest_table, table_of
+from idealcore.series import add_shifted
+from idealcore.tally import generated_numbers
 
 # After so many quotients by p alone, or products with it, powers of p whose exponents double are taken: the first
 # ones have fewer terms, the others come sooner to great exponents.
 PATIENCE = 6
 LONG_PATIENCE = 64
+
+# The reducer of 1, whose code is 0.
+ONE = ((0, 1),)
 
 
 def rest_of(coding, value, reducers):
@@ -31,21 +36,26 @@ def rests_of_products(coding, reducers, some, p):
 
 
 def part_inside(coding, reducers, some, p):
-    """Some of the ideal of some polynomials: those whose products with p are in another ideal, that of reducers.
+    """A basis of those polynomials in the ideal of some reducers whose products with p are in that of others.
 
     Each of some stands in a vector behind its product with p.  If the products are cancelled modulo the other
-    ideal, the places behind them are what is looked for.
+    ideal, the places behind them are what is looked for.  The vectors whose place behind is zero are those of the
+    other ideal, and the places behind are all of the first one: so the leading monomials of both tell how many the
+    vectors have.
     """
-    places = Places(coding, 2, ahead=1)
+    degree = max([sum(coding.exponents(code)) for code in p[0]], default=0)
+    places = Places(coding, 2, ahead=1, degrees=[0, degree])
     vectors = [moved(coding, places, table_of(reducer), 0) for reducer in reducers]
-    for q in some:
+    for q in [table_of(reducer) for reducer in some]:
         product_ahead = rest_of(coding, packed_product(coding.field, q, p), reducers)
         halves = [moved(coding, places, product_ahead, 0), moved(coding, places, q, 1)]
         vectors.append(combination(coding.field, [(1, 1, 0, half) for half in halves]))
+    wanted = generated_numbers(coding, reducers)
+    add_shifted(wanted, generated_numbers(coding, some), degree, 1)
     kept = []
-    for reducer in found_basis(places.coding, vectors).reducers:
-        if places.place(reducer[0][0]) == 1:
-            kept.append(({coding.code(places.unmarked(code)): n for code, n in reducer}, 1))
+    for reducer in completed_basis(places.coding, vectors, wanted).reducers:
+        if places.place_of(reducer[0][0]) == 1:
+            kept.append([(coding.code(places.unmarked(code)), n) for code, n in reducer])
     return kept
 
 
@@ -63,7 +73,7 @@ def saturated(coding, reducers, p):
     factor = p
     steps = 0
     while True:
-        wider = reduced_basis(coding, part_inside(coding, reducers, [({0: 1}, 1)], factor))
+        wider = reduced_among(coding, part_inside(coding, reducers, [ONE], factor))
         if wider == reducers:
             return reducers
         reducers = wider

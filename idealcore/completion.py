@@ -9,6 +9,7 @@ from heapq import heapify, heappop, heappush
 from idealcore.coding import Lift
 from idealcore.packed import lowest
 from idealcore.reducing import divided, reducer_of, reducers_of, rest_table, s_value
+from idealcore.tally import Tally
 
 
 class Pile:
@@ -32,6 +33,11 @@ class Pile:
         """The reducers that are alive."""
         return [self.reducers[index] for index in self.alive]
 
+    def mates(self, head):
+        """The leading monomials, at the same place as a monomial, of the reducers that are alive."""
+        heads = [self.head(index) for index in self.alive]
+        return [other for other in heads if not self.coding.is_apart(head, other)]
+
     def put(self, reducer):
         """Appends a reducer and brings the pairs up to date."""
         head = reducer[0][0]
@@ -52,8 +58,8 @@ class Pile:
     def new_pairs(self, new):
         """The pairs of a new reducer that do not follow from others."""
         head = self.head(new)
-        mates = [index for index in self.alive if not self.coding.is_apart(head, self.head(index))]
-        commons = [(self.coding.lcm(head, self.head(index)), index) for index in mates]
+        near = [index for index in self.alive if not self.coding.is_apart(head, self.head(index))]
+        commons = [(self.coding.lcm(head, self.head(index)), index) for index in near]
         # Where common multiples are equal, one that is the product comes first: it makes the others needless.
         ranked = sorted([(common, common != head + self.head(index), index) for common, index in commons])
         kept = []
@@ -71,10 +77,11 @@ class Completion:
 
     Sources are counted through: first the generators, then the reducers, in the order in which they are found.
     The history of a reducer tells it as the sum of n / d times a monomial times an earlier source, for quadruples
-    (source, code, n, d), the additional variable being left out.
+    (source, code, n, d), the additional variable being left out.  If it is told how many monomials of each degree
+    the leading monomials divide, with the additional variable, pairs that leave nothing are not looked at.
     """
 
-    def __init__(self, coding, generators):
+    def __init__(self, coding, generators, wanted=None):
         self.lift = Lift(coding)
         self.high = self.lift.high
         self.generators = [self.lift.lifted(value) for value in generators]
@@ -82,6 +89,7 @@ class Completion:
         self.needed = []
         self.waiting = 0
         self.pile = Pile(self.high)
+        self.tally = None if wanted is None else Tally(self.high, wanted)
         # A generator waits for the end of its degree as a pair with -1 and its index.
         for index, (table, _) in enumerate(self.generators):
             if table:
@@ -122,7 +130,16 @@ class Completion:
             self.needed.append(other)
         if self.lift.lowered(rest[0][0]) == 0:
             pile.pairs = []
+        if self.tally is not None:
+            self.leave_out_pairs()
         return True
+
+    def leave_out_pairs(self):
+        """Leaves out the pairs of degrees in which no leading monomial is lacking."""
+        least = self.tally.least_degree()
+        pairs = self.pile.pairs
+        while pairs and (least is None or self.lift.degree(pairs[0][0]) < least):
+            heappop(pairs)
 
     def start(self, one, other):
         """The packed polynomial of a pair, and the history of it."""
@@ -138,6 +155,8 @@ class Completion:
         reducer, n, d = reducer_of(self.high.field, value[0])
         n = n * value[1]
         self.history.append([(source, self.lift.lowered(code), m * n, e * d) for source, code, m, e in history])
+        if self.tally is not None:
+            self.tally.put(reducer[0][0], self.pile.mates(reducer[0][0]))
         self.pile.put(reducer)
 
     def low_pairs(self):
@@ -180,16 +199,27 @@ def is_complete(coding, reducers):
     return True
 
 
-def found_basis(coding, generators):
-    """A basis of generators, which are packed polynomials."""
+def ready_basis(coding, generators):
+    """The generators, which are packed polynomials, themselves, if they are a basis, otherwise None."""
     ready = reducers_of(coding.field, generators)
-    if is_complete(coding, [reducer for reducer, _, _, _ in ready]):
-        many = len(generators)
-        pairs = [(row[0], many + place) for place, row in enumerate(ready)]
-        return Found(coding, pairs, [[(index, 0, n, d)] for _, index, n, d in ready])
-    done = Completion(coding, generators)
+    if not is_complete(coding, [reducer for reducer, _, _, _ in ready]):
+        return None
+    many = len(generators)
+    pairs = [(row[0], many + place) for place, row in enumerate(ready)]
+    return Found(coding, pairs, [[(index, 0, n, d)] for _, index, n, d in ready])
+
+
+def completed_basis(coding, generators, wanted=None):
+    """A basis of generators that are none; what is wanted is that of the completion."""
+    done = Completion(coding, generators, wanted)
     done.run()
     return Found(coding, done.low_pairs(), done.history)
+
+
+def found_basis(coding, generators, wanted=None):
+    """A basis of generators, which are packed polynomials."""
+    found = ready_basis(coding, generators)
+    return completed_basis(coding, generators, wanted) if found is None else found
 
 
 def reduced_basis(coding, generators):

@@ -2,10 +2,12 @@
 from idealcore.checks import check_generators, check_images, check_polynomial, check_ring, check_some_places
 from idealcore.checks import check_target
 from idealcore.coding import Coding, block_rows, plain_coding
-from idealcore.completion import found_basis
+from idealcore.completion import completed_basis
 from idealcore.packed import combination, packed, sum_of_terms
-from idealcore.plain import basis_of_values
-from idealcore.reducing import divided, rest_polynomial
+from idealcore.plain import basis_by, basis_of_reducers, plain_reducers
+from idealcore.reducing import divided, monic, rest_polynomial
+from idealcore.series import add_shifted
+from idealcore.tally import generated_numbers
 
 
 def eliminate(ring, polys, places):
@@ -15,21 +17,21 @@ def eliminate(ring, polys, places):
     check_some_places(coding, places)
     plain = plain_coding(coding)
     block = Coding(coding.field, coding.many, block_rows(coding.many, places))
-    found = found_basis(block, [packed(block, p) for p in polys])
-    return basis_of_values(coding, values_without(block, found.reducers, places, plain, 0))
+    found = basis_by(plain, block, plain_reducers(coding, polys))
+    return basis_of_reducers(coding, reducers_without(block, found, places, plain, 0))
 
 
-def values_without(coding, reducers, places, other, first):
-    """The packed forms of those reducers in which the variables at some places do not occur.
+def reducers_without(coding, reducers, places, other, first):
+    """Those reducers in which the variables at some places do not occur.
 
-    The other coding has the variables from the first one on.
+    The other coding, by which they are returned, has the variables from the first one on.
     """
     kept = []
     for reducer in reducers:
         head = coding.exponents(reducer[0][0])
         # No greater monomial stands behind the leading one, so the variables occur nowhere if not there.
         if not any([head[place] for place in places]):
-            kept.append(({other.code(coding.exponents(code)[first:]): n for code, n in reducer}, 1))
+            kept.append([(other.code(coding.exponents(code)[first:]), n) for code, n in reducer])
     return kept
 
 
@@ -44,9 +46,9 @@ class Graph:
         self.target = aim
         many = aim.many + coding.many
         # With the degrees of what is put in their places, variables make the differences even where this is.
-        degrees = [max([sum(monomial) for _, monomial in p] + [1]) for p in values]
+        self.degrees = tuple([max([sum(monomial) for _, monomial in p] + [1]) for p in values])
         rows = block_rows(many, list(range(aim.many)))
-        self.coding = Coding(coding.field, many, rows, (1,) * aim.many + tuple(degrees))
+        self.coding = Coding(coding.field, many, rows, (1,) * aim.many + self.degrees)
         self.differences = [self.difference(place, p) for place, p in enumerate(values)]
 
     def difference(self, place, p):
@@ -59,20 +61,34 @@ class Graph:
         behind = (0,) * self.ring.many
         return packed(self.coding, [(number, monomial + behind) for number, monomial in p])
 
-    def reducers(self, polys):
-        """The reducers of a basis of the differences and of polynomials of the target."""
-        return found_basis(self.coding, self.differences + [self.of_target(p) for p in polys]).reducers
+    def reducers_with(self, polys):
+        """The reducers of a basis of the differences and of polynomials of the target.
+
+        Modulo the differences, all is told in the variables of the target.  So the terms that are left by those of
+        the polynomials there tell how many leading monomials there are.
+        """
+        plain = plain_coding(self.target)
+        reducers = plain_reducers(self.target, polys)
+        left = {0: 1}
+        add_shifted(left, generated_numbers(plain, reducers), 0, -1)
+        for degree in self.degrees:
+            taken = dict(left)
+            add_shifted(left, taken, degree, -1)
+        wanted = {0: 1}
+        add_shifted(wanted, left, 0, -1)
+        values = [self.of_target(monic(plain, reducer)) for reducer in reducers]
+        return completed_basis(self.coding, self.differences + values, wanted).reducers
 
     def ideal_below(self, polys):
         """The reduced basis of the ideal of what the map carries into the ideal of polynomials of the target."""
         plain = plain_coding(self.ring)
         first = self.target.many
-        values = values_without(self.coding, self.reducers(polys), list(range(first)), plain, first)
-        return basis_of_values(self.ring, values)
+        kept = reducers_without(self.coding, self.reducers_with(polys), list(range(first)), plain, first)
+        return basis_of_reducers(self.ring, kept)
 
     def source(self, p):
         """A polynomial of the ring that the map carries to p, None if there is none."""
-        rest, _ = divided(self.coding, self.of_target(p), self.reducers(()))
+        rest, _ = divided(self.coding, self.of_target(p), self.reducers_with(()))
         first = self.target.many
         terms = rest_polynomial(self.coding, rest)
         if any([sum(monomial[:first]) for _, monomial in terms]):

@@ -3,7 +3,8 @@ from idealcore.bases import reducers_of_ideal
 from idealcore.checks import check_even_ideal, check_generators, check_integer_in, check_ring
 from idealcore.coding import plain_coding
 from idealcore.plain import plain_reducers
-from idealcore.series import first_lasting, lasting_polynomial, least_sum, numerator, row_of, value_at
+from idealcore.series import add_shifted, first_lasting, lasting_polynomial, least_sum, row_of, value_at
+from idealcore.tally import generated_numbers
 
 MOST_HILBERT_DEGREE = 40
 
@@ -13,14 +14,11 @@ def heads_of(coding, reducers):
     return [coding.exponents(reducer[0][0]) for reducer in reducers]
 
 
-def plain_heads(coding, polys):
-    """The leading monomials of the reduced basis in the order "degrevlex"."""
-    return heads_of(plain_coding(coding), plain_reducers(coding, polys))
-
-
 def numerator_row(coding, polys):
     """The integers k[j] of the quotient ring by the ideal of polynomials."""
-    return row_of(numerator(plain_heads(coding, polys), coding.many))
+    total = {0: 1}
+    add_shifted(total, generated_numbers(plain_coding(coding), plain_reducers(coding, polys)), 0, -1)
+    return row_of(total)
 
 
 def hilbert_function(ring, polys, degree):
@@ -65,7 +63,8 @@ def dimension(ring, polys):
     """The greatest length of an independent set, -1 if there is none."""
     coding = check_ring(ring)
     check_generators(coding, polys)
-    return max([len(places) for places in greatest_sets(plain_heads(coding, polys), coding.many)], default=-1)
+    heads = heads_of(plain_coding(coding), plain_reducers(coding, polys))
+    return max([len(places) for places in greatest_sets(heads, coding.many)], default=-1)
 
 
 def greatest_sets(heads, many):

@@ -1,9 +1,9 @@
 """Ideals put together from others."""
 from idealcore.checks import check_generators, check_integer_in, check_polynomial, check_ring, check_two_lots
 from idealcore.coding import plain_coding
-from idealcore.colons import least_exponent, part_inside, rest_of, saturated
+from idealcore.colons import ONE, least_exponent, part_inside, rest_of, saturated
 from idealcore.packed import packed, packed_product
-from idealcore.plain import basis_of_values, few_values, packed_plainly, plain_reducers
+from idealcore.plain import basis_of_reducers, basis_of_values, few_values, packed_plainly, plain_reducers
 from idealcore.reducing import table_of
 
 MOST_EXPONENT = 4
@@ -39,9 +39,8 @@ def ideal_power(ring, polys, exponent):
 def meet(ring, one, other):
     """The ideal of the polynomials that are in both."""
     coding = check_two_lots(ring, one, other)
-    some = [table_of(reducer) for reducer in plain_reducers(coding, other)]
-    found = part_inside(plain_coding(coding), plain_reducers(coding, one), some, ({0: 1}, 1))
-    return basis_of_values(coding, found)
+    reducers, some = plain_reducers(coding, one), plain_reducers(coding, other)
+    return basis_of_reducers(coding, part_inside(plain_coding(coding), reducers, some, ({0: 1}, 1)))
 
 
 def quotient(ring, one, other):
@@ -49,11 +48,11 @@ def quotient(ring, one, other):
     coding = check_two_lots(ring, one, other)
     plain = plain_coding(coding)
     reducers = plain_reducers(coding, one)
-    some = [({0: 1}, 1)]
+    some = [ONE]
     for p in packed_plainly(coding, other):
         if rest_of(plain, p, reducers)[0]:
             some = part_inside(plain, reducers, some, p)
-    return basis_of_values(coding, some)
+    return basis_of_reducers(coding, some)
 
 
 def check_ideal_and_polynomial(ring, polys, p):
@@ -72,7 +71,7 @@ def saturation(ring, polys, p):
     reducers = plain_reducers(coding, polys)
     found = saturated(plain, reducers, value)
     some = [table_of(reducer) for reducer in found]
-    return (least_exponent(plain, reducers, some, value), basis_of_values(coding, some))
+    return (least_exponent(plain, reducers, some, value), basis_of_reducers(coding, found))
 
 
 def in_radical(ring, polys, p):

@@ -48,7 +48,7 @@ class Places:
         """The vector of a packed one."""
         return self.vector(unpacked(self.coding, value))
 
-    def place(self, code):
+    def place_of(self, code):
         """The index of the place of a term."""
         return self.coding.exponents(code)[self.many]
 

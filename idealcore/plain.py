@@ -1,8 +1,12 @@
-"""Ideals in the order "degrevlex", in which bases tend to be small, and the way back to the order of the ring."""
+"""The order "degrevlex", in which bases tend to be small, and the way from it to other orders.
+
+From a basis in this order it is known how many leading monomials of each degree one in another order must have.
+"""
 from idealcore.coding import plain_coding
-from idealcore.completion import reduced_basis
+from idealcore.completion import completed_basis, found_basis, ready_basis, reduced_among, reduced_basis
 from idealcore.packed import packed, recoded
 from idealcore.reducing import monic, table_of
+from idealcore.tally import generated_numbers
 
 
 def packed_plainly(coding, polys):
@@ -23,10 +27,34 @@ def few_values(coding, polys):
     return own if len(own) < len(reducers) else [table_of(reducer) for reducer in reducers]
 
 
+def basis_by(plain, coding, reducers):
+    """The reducers of a basis by another coding of the same monomials, from those of one in "degrevlex"."""
+    values = [recoded(plain, coding, table_of(reducer)) for reducer in reducers]
+    return found_basis(coding, values, generated_numbers(plain, reducers)).reducers
+
+
+def reduced_basis_by(plain, coding, values):
+    """The reducers of the reduced basis of packed polynomials, by way of "degrevlex" if they are no basis."""
+    ready = ready_basis(coding, values)
+    if ready is not None:
+        return reduced_among(coding, ready.reducers)
+    if plain.rows == coding.rows:
+        return reduced_among(coding, completed_basis(coding, values).reducers)
+    return in_order(plain, coding, reduced_basis(plain, [recoded(coding, plain, value) for value in values]))
+
+
+def in_order(plain, coding, reducers):
+    """The reducers of the reduced basis by a coding, from those of a basis in "degrevlex"."""
+    if plain.rows == coding.rows:
+        return reduced_among(plain, reducers)
+    return reduced_among(coding, basis_by(plain, coding, reducers))
+
+
+def basis_of_reducers(coding, reducers):
+    """The reduced basis, in the order of the ring, of the ideal of a basis in "degrevlex"."""
+    return tuple([monic(coding, reducer) for reducer in in_order(plain_coding(coding), coding, reducers)])
+
+
 def basis_of_values(coding, values):
     """The reduced basis, in the order of the ring, of the ideal of polynomials that are packed in "degrevlex"."""
-    plain = plain_coding(coding)
-    reducers = reduced_basis(plain, values)
-    if coding.rows != plain.rows:
-        reducers = reduced_basis(coding, [recoded(plain, coding, table_of(reducer)) for reducer in reducers])
-    return tuple([monic(coding, reducer) for reducer in reducers])
+    return basis_of_reducers(coding, reduced_basis(plain_coding(coding), values))

@@ -1,11 +1,11 @@
 """Resultants, common multiples and common divisors."""
 from idealcore.checks import check_two_polynomials, check_variable
 from idealcore.coding import plain_coding
-from idealcore.colons import part_inside
+from idealcore.colons import ONE, part_inside
 from idealcore.determinants import determinant
 from idealcore.errors import TooMany
 from idealcore.packed import packed, packed_product, recoded, unpacked
-from idealcore.reducing import divided, monic, reducer_of
+from idealcore.reducing import divided, monic, reducer_of, table_of
 
 MOST_ROWS = 10
 
@@ -45,9 +45,9 @@ def exchanges_sign(m, n):
 
 
 def multiplier(plain, p, q):
-    """The packed polynomial of least degree whose product with p is divisible by q, up to a number: q / divisor."""
+    """The reducer of the polynomial of least degree whose product with p is divisible by q: q / common divisor."""
     reducer, _, _ = reducer_of(plain.field, packed(plain, q)[0])
-    return part_inside(plain, [reducer], [({0: 1}, 1)], packed(plain, p))[0]
+    return part_inside(plain, [reducer], [ONE], packed(plain, p))[0]
 
 
 def with_leading_one(coding, plain, table):
@@ -61,7 +61,7 @@ def common_multiple(ring, p, q):
     if not p or not q:
         return ()
     plain = plain_coding(coding)
-    table, _ = packed_product(plain.field, packed(plain, p), multiplier(plain, p, q))
+    table, _ = packed_product(plain.field, packed(plain, p), table_of(multiplier(plain, p, q)))
     return with_leading_one(coding, plain, table)
 
 
@@ -74,8 +74,7 @@ def common_divisor(ring, p, q):
     if not p or not q:
         table, _ = packed(plain, p + q)
     else:
-        reducer, _, _ = reducer_of(plain.field, multiplier(plain, p, q)[0])
-        _, steps = divided(plain, (packed(plain, q)[0], 1), [reducer])
-        # Both are told by integers without a common divisor, so the quotient is, too.
+        _, steps = divided(plain, (packed(plain, q)[0], 1), [multiplier(plain, p, q)])
+        # The integers of a reducer have no common divisor, so those of the quotient are not divided by any.
         table = {code: number for _, code, number, _ in steps}
     return with_leading_one(coding, plain, table)

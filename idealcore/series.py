@@ -2,21 +2,23 @@
 from math import comb
 
 
-def numerator(monomials, many):
-    """The dict of the integers k[j], zeros among them, of point 22, of the ideal of monomials in so many variables.
+def numerator(monomials, grades):
+    """The dict of the integers k[j], zeros among them, of point 22, of an ideal of monomials.
 
-    The monomials outside with the exponent e at the last variable are those outside of the ideal of the monomials
-    with at most this exponent there, in one variable less.
+    The grades are the degrees of the variables.  The monomials outside with the exponent e at the last variable are
+    those outside of the ideal of the monomials with at most this exponent there, in one variable less.
     """
-    if many == 0:
-        return {} if monomials else {0: 1}
+    if not monomials:
+        return {0: 1}
+    if not grades:
+        return {}
     levels = sorted(set([0] + [monomial[-1] for monomial in monomials]))
     total = {}
     for index, level in enumerate(levels):
-        part = numerator([monomial[:-1] for monomial in monomials if monomial[-1] <= level], many - 1)
-        add_shifted(total, part, level, 1)
+        part = numerator([monomial[:-1] for monomial in monomials if monomial[-1] <= level], grades[:-1])
+        add_shifted(total, part, level * grades[-1], 1)
         if index + 1 < len(levels):
-            add_shifted(total, part, levels[index + 1], -1)
+            add_shifted(total, part, levels[index + 1] * grades[-1], -1)
     return total
 
 

@@ -4,7 +4,8 @@ from idealcore.completion import Completion, found_basis
 from idealcore.errors import TooMany
 from idealcore.modules import Places, vectors_with_units
 from idealcore.packed import unpacked
-from idealcore.series import add_shifted, numerator, row_of
+from idealcore.series import add_shifted, row_of
+from idealcore.tally import free_numbers, generated_numbers
 
 
 def vector_degree(vector, place_degrees):
@@ -32,61 +33,49 @@ class Step:
         vectors = least_syzygies(plain, self)
         return Step(self.degrees, vectors) if vectors else None
 
-    def left_numerator(self, plain):
-        """The integers k[j] of what the places have modulo the module, as in point 22."""
+    def term_numbers(self, plain):
+        """The numbers of the leading terms of each degree of the module of the vectors."""
         places = self.places(plain)
-        heads = [[] for _ in self.place_degrees]
-        for reducer in found_basis(places.coding, [places.packed_vector(v) for v in self.vectors]).reducers:
-            code = reducer[0][0]
-            heads[places.place(code)].append(places.unmarked(code))
-        total = {}
-        for lot, degree in zip(heads, self.place_degrees):
-            add_shifted(total, numerator(lot, plain.many), degree, 1)
-        return total
-
-
-def free_numerator(degrees):
-    """The integers k[j] of vectors with places of such degrees."""
-    total = {}
-    for degree in degrees:
-        add_shifted(total, {0: 1}, degree, 1)
-    return total
+        found = found_basis(places.coding, [places.packed_vector(vector) for vector in self.vectors])
+        return generated_numbers(places.coding, found.reducers)
 
 
 def has_just_syzygies(plain, step, later):
     """Whether syzygies of a step, the vectors of a later one or none, generate all of them.
 
-    What the step generates and what its places behind have modulo its syzygies are alike, so the dimensions tell it.
+    The terms at the places of the later step are as many as the leading terms of the module of the step and those
+    of all syzygies together.
     """
-    generated = free_numerator(step.place_degrees)
-    add_shifted(generated, step.left_numerator(plain), 0, -1)
-    left = free_numerator(step.degrees) if later is None else later.left_numerator(plain)
-    return row_of(generated) == row_of(left)
+    total = step.term_numbers(plain)
+    if later is not None:
+        add_shifted(total, later.term_numbers(plain), 0, 1)
+    return row_of(total) == row_of(free_numbers(step.degrees))
 
 
 def least_syzygies(plain, step):
     """A least set of syzygies of the vectors of a step that generate all of them.
 
     Pairs are taken by ascending degrees, those of syzygies ahead of the others.  So a pair of others that leaves a
-    syzygy leaves one that those so far do not generate.
+    syzygy leaves one that those so far do not generate.  The vectors with units of their own have no syzygies, and
+    so their module has as many terms as places with their degrees.
     """
     rank = len(step.place_degrees)
     places = Places(plain, rank + len(step.vectors), rank, step.place_degrees + step.degrees)
-    done = Completion(places.coding, vectors_with_units(places, rank, step.vectors))
+    done = Completion(places.coding, vectors_with_units(places, rank, step.vectors), free_numbers(step.degrees))
     found = []
     while done.pile.pairs:
         _, one, _ = done.pile.pairs[0]
-        is_ahead = one < 0 or place_of(places, done, one) < rank
-        if done.take() and is_ahead and place_of(places, done, len(done.pile.reducers) - 1) >= rank:
+        is_ahead = one < 0 or leading_place(places, done, one) < rank
+        if done.take() and is_ahead and leading_place(places, done, len(done.pile.reducers) - 1) >= rank:
             found.append(places.vector(unpacked_reducer(places, done))[rank:])
             if len(found) > MOST_VECTORS:
                 raise TooMany(MOST_VECTORS)
     return found
 
 
-def place_of(places, done, index):
+def leading_place(places, done, index):
     """The place of the leading term of a reducer."""
-    return places.place(done.lift.lowered(done.pile.head(index)))
+    return places.place_of(done.lift.lowered(done.pile.head(index)))
 
 
 def unpacked_reducer(places, done):

@@ -1,12 +1,13 @@
 """Syzygies of polynomials and of vectors."""
 from idealcore.bases import are_basis
 from idealcore.checks import check_generators, check_rank, check_ring, check_vectors
-from idealcore.completion import found_basis, reduced_among
+from idealcore.completion import completed_basis, reduced_among
 from idealcore.division import cofactors_and_rest
 from idealcore.errors import NotBasis
 from idealcore.modules import Places, vectors_with_units
 from idealcore.packed import combination, packed, unpacked
 from idealcore.reducing import monic, reducers_of, s_value
+from idealcore.tally import free_numbers
 
 
 def syzygies(ring, polys):
@@ -28,9 +29,12 @@ def reduced_syzygies(coding, rank, vectors):
     """The reduced basis of the syzygies of vectors: what is left where the places of the vectors are zero."""
     if not vectors:
         return ()
-    places = Places(coding, rank + len(vectors), ahead=rank)
-    reducers = found_basis(places.coding, vectors_with_units(places, rank, vectors)).reducers
-    behind = [reducer for reducer in reducers if places.place(reducer[0][0]) >= rank]
+    degrees = [max([sum(monomial) for p in vector for _, monomial in p], default=0) for vector in vectors]
+    places = Places(coding, rank + len(vectors), ahead=rank, degrees=[0] * rank + degrees)
+    # The vectors with units of their own have no syzygies: their module has as many terms as places alone.
+    wanted = free_numbers(degrees)
+    reducers = completed_basis(places.coding, vectors_with_units(places, rank, vectors), wanted).reducers
+    behind = [reducer for reducer in reducers if places.place_of(reducer[0][0]) >= rank]
     rows = [monic(places.coding, reducer) for reducer in reduced_among(places.coding, behind)]
     return tuple([places.vector(row)[rank:] for row in rows])
 

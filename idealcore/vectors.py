@@ -1,9 +1,9 @@
 """Modules of vectors."""
 from idealcore.checks import check_rank, check_ring, check_vector, check_vectors, is_row_of_polynomials
 from idealcore.coding import plain_coding
-from idealcore.completion import reduced_basis
 from idealcore.modules import Places
 from idealcore.packed import packed, products_sum, same_packed
+from idealcore.plain import reduced_basis_by
 from idealcore.reducing import divided, monic, rest_polynomial
 from idealcore.tracing import Tracer, cofactors
 
@@ -23,21 +23,25 @@ def check_lot_and_vector(ring, rank, vectors, vector):
     return coding
 
 
-def module_reducers(places, vectors):
+def module_reducers(coding, places, vectors):
     """The reducers of the reduced basis of a module."""
-    return reduced_basis(places.coding, [places.packed_vector(vector) for vector in vectors])
+    plain = Places(plain_coding(coding), places.rank)
+    return reduced_basis_by(plain.coding, places.coding, [places.packed_vector(vector) for vector in vectors])
 
 
 def module_basis(ring, rank, vectors):
     """The reduced basis of the module of vectors."""
-    places = Places(check_lot(ring, rank, vectors), rank)
-    return tuple([places.vector(monic(places.coding, reducer)) for reducer in module_reducers(places, vectors)])
+    coding = check_lot(ring, rank, vectors)
+    places = Places(coding, rank)
+    reducers = module_reducers(coding, places, vectors)
+    return tuple([places.vector(monic(places.coding, reducer)) for reducer in reducers])
 
 
 def module_normal_form(ring, rank, vectors, vector):
     """The vector that is left of a vector modulo the module."""
-    places = Places(check_lot_and_vector(ring, rank, vectors, vector), rank)
-    rest, _ = divided(places.coding, places.packed_vector(vector), module_reducers(places, vectors))
+    coding = check_lot_and_vector(ring, rank, vectors, vector)
+    places = Places(coding, rank)
+    rest, _ = divided(places.coding, places.packed_vector(vector), module_reducers(coding, places, vectors))
     return places.vector(rest_polynomial(places.coding, rest))
 
 
