@@ -2,6 +2,7 @@
 import random
 import unittest
 from itertools import combinations
+from unittest.mock import patch
 
 from idealcore.bases import basis, standard_monomials
 from idealcore.errors import BadPolynomials, BadRing, IdealError, NotEven, TooMany
@@ -285,6 +286,18 @@ class Resolutions(unittest.TestCase):
             self.assertRaises(BadRing, function, (5, 4), products)
         self.assertEqual(minimal_generators(ring, products), tuple(range(10)))
         self.assertIs(shows_resolution(ring, products, (tuple((p,) for p in products),)), False)
+        twelve = of_texts(ring, "z^3*w^2", "y^2*z*w", "x*z^3", "x*y*z^2*w^2", "x*y^3", "x^2*w^3", "x^2*y*z*w^2")
+        self.assertEqual([len(step) for step in resolution(ring, twelve)], [7, 12, 6])
+        self.assertIs(shows_resolution(ring, twelve, resolution(ring, twelve)), True)
+        thirteen = of_texts(ring, "y^2*z^3*w^3", "x*y^2*z^3", "x*y^3*w^2", "x^2*y*z^3*w^2", "x^2*y^2*w^3",
+                            "x^2*y^3*w", "x^3*w^2", "x^3*y*z^2*w")
+        self.assertRaises(TooMany, resolution, ring, thirteen)
+        with patch("idealcore.steps.MOST_VECTORS", 13):
+            steps = resolution(ring, thirteen)
+        self.assertEqual([len(step) for step in steps], [8, 13, 7, 1])
+        self.assertIs(shows_resolution(ring, thirteen, steps), False)
+        with patch("idealcore.resolutions.MOST_VECTORS", 13):
+            self.assertIs(shows_resolution(ring, thirteen, steps), True)
         ring = (5, 3, "lex")
         products = ideal_power(ring, of_texts(ring, "x", "y", "z"), 2)
         self.assertEqual(betti_numbers(ring, products), [(0, 0, 1), (1, 2, 6), (2, 3, 8), (3, 4, 3)])
