@@ -5,9 +5,9 @@ The functions is_.. tell whether any value is of a kind, the functions check_.. 
 from math import gcd
 
 from idealcore.coding import Coding, rows_of
-from idealcore.errors import BadField, BadInteger, BadMonomial, BadNumber, BadPlaces, BadPoint, BadPolynomial
-from idealcore.errors import BadPolynomials, BadRank, BadRing, BadTerms, BadValues, BadVariable, BadVector, BadVectors
-from idealcore.errors import NotEven, OtherRing
+from idealcore.errors import BadField, BadInteger, BadMonomial, BadMonomials, BadNumber, BadNumbers, BadPlaces
+from idealcore.errors import BadPoint, BadPoints, BadPolynomial, BadPolynomials, BadRank, BadRing, BadTerms, BadValues
+from idealcore.errors import BadVariable, BadVector, BadVectors, NotEven, OtherRing
 from idealcore.fields import zero_of
 
 PRIMES = (2, 3, 5, 7, 11, 13, 17, 19, 23, 29, 31)
@@ -23,6 +23,10 @@ MOST_RANK = 12
 MOST_VECTORS = 12
 MOST_VALUES = 13
 MOST_VALUE = 1000000
+MOST_MONOS = 12
+MOST_MONO_VARIABLES = 8
+MOST_MONO_EXPONENT = 8
+MOST_POINTS = 20
 
 
 def is_integer(value):
@@ -72,9 +76,7 @@ def is_order(many, value):
         return False
     if value[0] == "block":
         return is_integer_in(value[1], 1, many - 1)
-    if value[0] != "weights" or not is_tuple_of(value[1], many):
-        return False
-    return all(is_integer_in(weight, 1, MOST_WEIGHT) for weight in value[1])
+    return value[0] == "weights" and is_row_of_integers(value[1], many, 1, MOST_WEIGHT)
 
 
 def is_ring(value):
@@ -85,11 +87,19 @@ def is_ring(value):
     return is_field(field) and is_integer_in(many, 1, MOST_VARIABLES) and is_order(many, order)
 
 
+def is_row_of_integers(value, many, low, high):
+    """Whether a value is a tuple of so many integers from low to high."""
+    return is_tuple_of(value, many) and all(is_integer_in(number, low, high) for number in value)
+
+
 def is_monomial(many, value):
     """Whether a value is a monomial in so many variables."""
-    if not is_tuple_of(value, many):
-        return False
-    return all(is_integer_in(exponent, 0, MOST_DEGREE) for exponent in value) and sum(value) <= MOST_DEGREE
+    return is_row_of_integers(value, many, 0, MOST_DEGREE) and sum(value) <= MOST_DEGREE
+
+
+def is_mono(many, value):
+    """Whether a value is a monomial of point 27."""
+    return is_row_of_integers(value, many, 0, MOST_MONO_EXPONENT)
 
 
 def is_loose_term(coding, value):
@@ -179,10 +189,33 @@ def check_variable(coding, value):
         raise BadVariable("not the index of a variable")
 
 
+def is_row_of_numbers(field, value, many):
+    """Whether a value is a tuple of so many numbers of a field."""
+    return is_tuple_of(value, many) and all(is_number(field, number) for number in value)
+
+
 def check_point(coding, value):
     """BadPoint for what is not a point of the ring."""
-    if not is_tuple_of(value, coding.many) or not all(is_number(coding.field, number) for number in value):
+    if not is_row_of_numbers(coding.field, value, coding.many):
         raise BadPoint("not a point of the ring")
+
+
+def check_points(coding, value):
+    """BadPoints for what is not a tuple of different points of the ring."""
+    if not is_tuple_up_to(value, MOST_POINTS):
+        raise BadPoints(None)
+    for index, point in enumerate(value):
+        if not is_row_of_numbers(coding.field, point, coding.many) or point in value[:index]:
+            raise BadPoints(index)
+
+
+def check_numbers(field, value, many):
+    """BadNumbers for what is not a tuple of so many numbers of the field."""
+    if not is_tuple_of(value, many):
+        raise BadNumbers(None)
+    for index, number in enumerate(value):
+        if not is_number(field, number):
+            raise BadNumbers(index)
 
 
 def check_terms(coding, value):
@@ -291,5 +324,31 @@ def check_values(value):
     """BadValues for what are not values."""
     if not is_tuple_up_to(value, MOST_VALUES) or len(value) == 0:
         raise BadValues(f"not a tuple of 1 to {MOST_VALUES} integers")
-    if not all(is_integer_in(number, 0, MOST_VALUE) for number in value):
+    if not is_row_of_integers(value, len(value), 0, MOST_VALUE):
         raise BadValues(f"not integers from 0 to {MOST_VALUE}")
+
+
+def check_many(value):
+    """BadInteger for what is not a number of variables of point 27."""
+    check_integer_in(value, 1, MOST_MONO_VARIABLES)
+
+
+def check_mono(many, value):
+    """BadMonomial for what is not a monomial of point 27."""
+    if not is_mono(many, value):
+        raise BadMonomial(f"not a tuple of {many} integers from 0 to {MOST_MONO_EXPONENT}")
+
+
+def check_monos(many, value):
+    """BadMonomials for what is not a tuple of monomials of point 27."""
+    if not is_tuple_up_to(value, MOST_MONOS):
+        raise BadMonomials(None)
+    for index, mono in enumerate(value):
+        if not is_mono(many, mono):
+            raise BadMonomials(index)
+
+
+def check_places(many, value):
+    """BadPlaces for what is not an ascending tuple of different indexes."""
+    if not is_row_of_indexes(value, many):
+        raise BadPlaces("not an ascending tuple of different indexes of variables")

@@ -61,7 +61,6 @@ class Coding:
         self.rows = rows
         self.grades = (1,) * many if grades is None else grades
         self.marks = marks
-        self.marks = marks
         self.shifts = [WIDTH * (many - 1 - k) for k in range(many)]
         self.units = [self.unit(place) for place in range(many)]
         self.marked = sum([MASK << self.shifts[k] for k in marks])
@@ -93,7 +92,6 @@ class Coding:
     def lcm(self, one, other):
         """The code of the least common multiple."""
         return self.code([max(a, b) for a, b in zip(self.exponents(one), self.exponents(other))])
-
 
     def grade(self, monomial):
         """The degree of a monomial, by the grades."""
