@@ -101,6 +101,11 @@ class Completion:
         while self.pile.pairs:
             self.take()
 
+    def run_up_to(self, degree):
+        """Takes pairs until none of at most a degree is left."""
+        while self.pile.pairs and self.lift.degree(self.pile.pairs[0][0]) <= degree:
+            self.take()
+
     def needed_generators(self):
         """The indexes of the generators that are not in the ideal of those ahead of them, by ascending degrees.
 
@@ -207,6 +212,13 @@ def ready_basis(coding, generators):
     many = len(generators)
     pairs = [(row[0], many + place) for place, row in enumerate(ready)]
     return Found(coding, pairs, [[(index, 0, n, d)] for _, index, n, d in ready])
+
+
+def basis_up_to(coding, generators, degree, wanted=None):
+    """Those reducers of the reduced basis that have at most a degree; each generator must have one degree."""
+    done = Completion(coding, generators, wanted)
+    done.run_up_to(degree)
+    return reduced_among(coding, Found(coding, done.low_pairs(), done.history).reducers)
 
 
 def completed_basis(coding, generators, wanted=None):

@@ -63,8 +63,12 @@ def dimension(ring, polys):
     """The greatest length of an independent set, -1 if there is none."""
     coding = check_ring(ring)
     check_generators(coding, polys)
-    heads = heads_of(plain_coding(coding), plain_reducers(coding, polys))
-    return max([len(places) for places in greatest_sets(heads, coding.many)], default=-1)
+    return dimension_of(plain_coding(coding), plain_reducers(coding, polys))
+
+
+def dimension_of(coding, reducers):
+    """The dimension of the quotient ring by the ideal of the reducers of a basis."""
+    return max([len(places) for places in greatest_sets(heads_of(coding, reducers), coding.many)], default=-1)
 
 
 def greatest_sets(heads, many):

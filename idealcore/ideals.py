@@ -18,8 +18,12 @@ def ideal_sum(ring, one, other):
 def ideal_product(ring, one, other):
     """The ideal of all products of an element of one and an element of the other."""
     coding = check_two_lots(ring, one, other)
-    ahead, behind = few_values(coding, one), few_values(coding, other)
-    return basis_of_values(coding, [packed_product(coding.field, p, q) for p in ahead for q in behind])
+    return basis_of_values(coding, products_of(coding.field, few_values(coding, one), few_values(coding, other)))
+
+
+def products_of(field, one, other):
+    """The products of each two of some packed polynomials and others."""
+    return [packed_product(field, p, q) for p in one for q in other]
 
 
 def ideal_power(ring, polys, exponent):
@@ -39,20 +43,29 @@ def ideal_power(ring, polys, exponent):
 def meet(ring, one, other):
     """The ideal of the polynomials that are in both."""
     coding = check_two_lots(ring, one, other)
-    reducers, some = plain_reducers(coding, one), plain_reducers(coding, other)
-    return basis_of_reducers(coding, part_inside(plain_coding(coding), reducers, some, ({0: 1}, 1)))
+    found = meet_of_bases(plain_coding(coding), plain_reducers(coding, one), plain_reducers(coding, other))
+    return basis_of_reducers(coding, found)
+
+
+def meet_of_bases(plain, one, other):
+    """A basis of the meet of the ideals of two reduced bases."""
+    return part_inside(plain, one, other, ({0: 1}, 1))
 
 
 def quotient(ring, one, other):
     """The ideal of the polynomials whose products with all elements of other are in one."""
     coding = check_two_lots(ring, one, other)
-    plain = plain_coding(coding)
-    reducers = plain_reducers(coding, one)
+    found = quotient_of_basis(plain_coding(coding), plain_reducers(coding, one), packed_plainly(coding, other))
+    return basis_of_reducers(coding, found)
+
+
+def quotient_of_basis(plain, reducers, values):
+    """A basis of the quotient of the ideal of a reduced basis by that of some packed polynomials."""
     some = [ONE]
-    for p in packed_plainly(coding, other):
+    for p in values:
         if rest_of(plain, p, reducers)[0]:
             some = part_inside(plain, reducers, some, p)
-    return basis_of_reducers(coding, some)
+    return some
 
 
 def check_ideal_and_polynomial(ring, polys, p):

@@ -23,8 +23,12 @@ def plain_reducers(coding, polys):
 def few_values(coding, polys):
     """Generators of the ideal of polynomials, packed: those of the reduced basis, if these are not more."""
     own = packed_plainly(coding, polys)
-    reducers = reduced_basis(plain_coding(coding), own)
-    return own if len(own) < len(reducers) else [table_of(reducer) for reducer in reducers]
+    return fewer(own, reduced_basis(plain_coding(coding), own))
+
+
+def fewer(values, reducers):
+    """Generators of an ideal, packed, or those of its reduced basis, if these are not more."""
+    return values if len(values) < len(reducers) else [table_of(reducer) for reducer in reducers]
 
 
 def basis_by(plain, coding, reducers):

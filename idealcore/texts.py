@@ -55,6 +55,11 @@ def read(ring, text):
     coding = check_ring(ring)
     if not isinstance(text, str):
         raise NotText("not a string")
+    return polynomial_of(coding, text)
+
+
+def polynomial_of(coding, text):
+    """The polynomial of a string: InvalidText."""
     return sum_of_terms(coding, Reader(coding, text).terms())
 
 

@@ -2,14 +2,22 @@
 import copy
 import unittest
 
-from idealcore import bases, division, eliminating, errors, growth, hilbert, ideals, membership, numbers, orders, polys
-from idealcore import resolutions, resultants, syzygies, texts, vectors
+from idealcore import bases, changing, complexes, division, eliminating, errors, growth, hilbert, ideals, lattices
+from idealcore import membership, monoideals, numbers, orders, points, polys, primary, resolutions, resultants, syzygies
+from idealcore import texts, vectors, zeros
 
 RING = (0, 2, "lex")
 X = (((1, 1), (1, 0)),)
 Y = (((1, 1), (0, 1)),)
 P = (((1, 1), (2, 0)), ((-1, 2), (0, 1)))
 TARGET = (0, 1, "deglex")
+PRIME = (5, 2, "lex")
+PX = ((1, (1, 0)),)
+PY = ((2, (0, 3)), (1, (0, 0)))
+MONOS = ((2, 0), (1, 1))
+SQUARE = ((0, 1), (1, 2))
+COINS = ((1, 2, 3),)
+MOVES = ((2, -1, 0), (1, 1, -1))
 ODD = [7, -1, "x", "", True, False, None, (), (1,), ((),), (None, None), [], [1], {}, {"a": 1}, (0, 2), "lex", ((1, 1),)]
 
 WRONG = {
@@ -47,12 +55,41 @@ WRONG = {
     "rank": ("BadRank", [0, 13, -1, True, False, None, "1", (), (1,), [1], {}]),
     "vector": ("BadVector", [7, "x", True, None, (), X, (X,), (X, X, X), [X, X], {}, (X, None), (None, X), (X, [X]),
                              (X, X + X), (X, ((1, (1, 0)),))]),
+    "eight": ("BadInteger", [0, 9, -1, True, False, None, "1", (), (1,), [1], {}]),
+    "mono": ("BadMonomial", [7, "x", True, None, (), (1,), (1, 1, 1), [1, 1], {}, (-1, 1), (9, 0), (True, 0), (1, "1"),
+                             (None, 1), ((1, 1), 1)]),
+    "all places": ("BadPlaces", [(0, 0), (1, 0), (True,), (2,), (-1,), [0], [], None, 0, "0", {}, (None,), (0, 1, 2)]),
+    "complex": ("BadComplex", [7, "x", True, None, [], [(0,)], {}, (1,), ((1,), (0,)), ((0,), (0, 1)), ((0,), (0,)),
+                               ((1, 0),), ((3,),), ((True,),), ((), (0,)), tuple((0,) for _ in range(71))]),
+    "prime": ("BadPolynomials", [7, "x", True, None, [], [PX], {}, (X,), (PX, 1), (PX,) * 13, (PX + PX,)]),
+    "modular polynomial": ("BadPolynomial", [7, "x", True, None, [], [1], {}, X, PX + PX, ((5, (1, 0)),)]),
+    "most": ("BadInteger", [0, 9, -1, True, False, None, "1", (), (1,), [1], {}]),
+    "matrix": ("BadMatrix", [7, "x", True, None, (), [], {}, ((),), ((1, 2, 3),) * 4, ((1, 2, 3, 4, 5),), ((0, 1, 2),),
+                             ((1, 2, 9),), ((1, 2, 3), (1, 2)), ((1, 2, 3), (1, 2, 9)), ((1, 2, 3), (1, 2, -1)),
+                             [(1, 2, 3)], ([1, 2, 3],), ((1, 2, True),), ((1, 2, None),), ((1, 2, 3), None), (1, 2, 3),
+                             ((1, 2, 3), ()), ((1, 2, 3), (False, 0, 0))]),
+    "lone matrix": ("BadMatrix", [7, "x", True, None, (), [], {}, ((),), ((1, 2),) * 4, ((1, 2, 3),), ((1,),),
+                                  ((0, 1),), ((1, 9),), ((1, 2), (1,)), [(1, 2)], ([1, 2],), ((1, True),)]),
+    "solution": ("BadMonomial", [7, "x", True, None, (), (1, 2), (1, 2, 3, 4), [1, 2, 3], {}, (-1, 0, 0), (21, 0, 0),
+                                 (True, 0, 0), (1, 2, "3"), (None, 1, 1), ((1, 2, 3),)]),
+    "costs": ("BadCosts", [7, "x", True, None, (), (1, 2), (1, 2, 3, 4), [1, 2, 3], {}, (0, 1, 1), (21, 1, 1),
+                           (True, 1, 1), (1, 2, "3"), (None, 1, 1), ((1, 2, 3),)]),
+    "points": ("BadPoints", [7, "x", True, None, [], [((1, 1), (1, 1))], {}, (1,), (((1, 1),),), (((1, 1), (2, 2)),),
+                             (((1, 1), (1, 1)),) * 2, (((1, 1), (1, 1), (1, 1)),), ((1, 1), (1, 1)), (None,) * 21]),
+    "numbers": ("BadNumbers", [7, "x", True, None, [], [(1, 1)], {}, (), ((1, 1),) * 2, (1,), (None,), ((2, 2),),
+                               (True,), ([1, 1],)]),
     "variable": ("BadVariable", [-1, 2, True, False, None, "x", (), (0,), [0], {}]),
 }
 BIG = {"terms": ("BadTerms", 200, ((1, 1), (1, 0)), [7, None, (), ((1, 1),), ((1, 1), (1,)), [(1, 1), (1, 0)],
                                                       (1, (1, 0)), ((1, 1), (1, 0), 1), ((2, 2), (1, 0)), {}]),
        "generators": ("BadPolynomials", 12, X, [7, None, True, "x", [], {}, X + X, ((1, (1, 0)),)]),
        "even": ("BadPolynomials", 12, X, [7, None, True, "x", [], {}, X + X, ((1, (1, 0)),)]),
+       "monos": ("BadMonomials", 12, (1, 0), [7, None, True, "x", [], {}, (1,), (1, 0, 0), [1, 0], (9, 0), (-1, 0),
+                                              (True, 0), (1, None), "10"]),
+       "sets": ("BadSets", 70, (0, 2), [7, None, True, "x", [], {}, [0], (1, 0), (0, 0), (3,), (-1,), (True,), (None,),
+                                        ((0,),), "0"]),
+       "moves": ("BadMoves", 12, (2, -1, 0), [7, None, True, "x", [], {}, (2, -1), (2, -1, 0, 0), [2, -1, 0],
+                                              (1, 0, 0), (42, -21, 0), (0, True, 0), (None, 0, 0), (0, 0, False)]),
        "vectors": ("BadVectors", 12, (X, Y), [7, None, True, "x", [], {}, (X,), (X, X, X), [X, X], (X, None), X,
                                               (X, Y + X)]),
        "divisors": ("BadPolynomials", 40, X, [7, None, False, "x", [], {}, Y + X, (((1, 1), (1,)),)])}
@@ -137,6 +174,51 @@ CALLS = [
     (growth.grown, (11, 3), ("amount", "level")),
     (growth.growth_gap, (2, (1, 2, 2)), ("many", "values")),
     (growth.lex_ideal, (2, (1, 2, 2)), ("many", "values")),
+    (monoideals.least_monomials, (2, MONOS), ("eight", "monos")),
+    (monoideals.mono_meet, (2, MONOS, ((0, 3),)), ("eight", "monos", "monos")),
+    (monoideals.mono_quotient, (2, MONOS, (1, 0)), ("eight", "monos", "mono")),
+    (monoideals.mono_radical, (2, MONOS), ("eight", "monos")),
+    (monoideals.irreducible_parts, (2, MONOS), ("eight", "monos")),
+    (monoideals.associated, (2, MONOS), ("eight", "monos")),
+    (monoideals.witness, (2, MONOS, (0, 1)), ("eight", "monos", "all places")),
+    (monoideals.shows_witness, (2, MONOS, (0, 1), None), ("eight", "monos", "all places", None)),
+    (monoideals.primary_parts, (2, MONOS), ("eight", "monos")),
+    (monoideals.quotient_order, (2, MONOS), ("eight", "monos")),
+    (monoideals.shows_quotient_order, (2, MONOS, None), ("eight", "monos", None)),
+    (complexes.faces, (3, SQUARE), ("eight", "complex")),
+    (complexes.f_vector, (3, SQUARE), ("eight", "complex")),
+    (complexes.nonfaces, (3, SQUARE), ("eight", "complex")),
+    (complexes.complex_of, (3, SQUARE), ("eight", "sets")),
+    (complexes.covers, (3, SQUARE), ("eight", "sets")),
+    (complexes.dual_complex, (3, SQUARE), ("eight", "complex")),
+    (complexes.homology, (0, 3, SQUARE), ("field", "eight", "complex")),
+    (complexes.hochster, (0, 3, SQUARE), ("field", "eight", "sets")),
+    (complexes.square_betti, (0, 3, SQUARE), ("field", "eight", "sets")),
+    (complexes.polarized, (2, MONOS), ("eight", "monos")),
+    (zeros.is_finite, (RING, (P, X)), ("ring", "generators")),
+    (zeros.quotient_basis, (RING, (P, X)), ("ring", "generators")),
+    (zeros.times_matrix, (RING, (P, X), Y), ("ring", "generators", "polynomial")),
+    (zeros.least_polynomial, (RING, (P, X), Y), ("ring", "generators", "polynomial")),
+    (points.zeros, (PRIME, (PX, PY)), ("ring", "prime")),
+    (points.field_basis, (PRIME, (PX, PY)), ("ring", "prime")),
+    (points.no_zero, (PRIME, (PX, PY)), ("ring", "prime")),
+    (points.shows_no_zero, (PRIME, (PX, PY), None), ("ring", "prime", None)),
+    (points.points_ideal, (RING, (((1, 1), (1, 1)),)), ("ring", "points")),
+    (points.separators, (RING, (((1, 1), (1, 1)),)), ("ring", "points")),
+    (points.interpolated, (RING, (((1, 1), (1, 1)),), ((1, 2),)), ("ring", "points", "numbers")),
+    (lattices.lattice_ideal, (RING, ((2, 3),)), ("ring", "lone matrix")),
+    (lattices.fibre, (COINS, (1, 1, 1)), ("matrix", "solution")),
+    (lattices.cheapest, (COINS, (1, 2, 20), (1, 1, 1)), ("matrix", "costs", "solution")),
+    (lattices.is_joined, (COINS, MOVES, (3, 0, 0), (0, 0, 1)), ("matrix", "moves", "solution", "solution")),
+    (lattices.walk, (COINS, MOVES, (3, 0, 0), (0, 0, 1)), ("matrix", "moves", "solution", "solution")),
+    (lattices.unjoined, (COINS, MOVES), ("matrix", "moves")),
+    (changing.changed, (RING, (P, X), (0, 2, "deglex")), ("ring", "generators", "ring")),
+    (changing.graded_basis, (RING, (X, Y), 3), ("ring", "even", "degree")),
+    (changing.weight_bases, (RING, (P, X), 2), ("ring", "generators", "most")),
+    (changing.universal, (RING, (P, X), 2), ("ring", "generators", "most")),
+    (primary.primary_ideals, (PRIME, (PX, PY)), ("ring", "prime")),
+    (primary.part_count, (PRIME, (PX, PY)), ("ring", "prime")),
+    (primary.idempotents, (PRIME, (PX, PY)), ("ring", "prime")),
 ]
 
 
@@ -150,7 +232,7 @@ def wrong_values(kind):
              for value in (7, -1, "x", True, False, None, [], [good], {}, {0: good}, (good,) * (most + 1),
                            (None,) * (most + 1))]
     for value in bad:
-        if kind != "terms" and value == ():
+        if kind in ("generators", "even", "divisors", "vectors") and value == ():
             continue
         for ahead in (0, 1, most - 1):
             found.append((getattr(errors, name), {"index": ahead}, (good,) * ahead + (value,)))
@@ -224,7 +306,12 @@ class Arguments(unittest.TestCase):
         for function, arguments in ((orders.monomials, (RING, 2)), (polys.parts, (RING, P)),
                                     (bases.standard_monomials, (RING, (P, X), 3)),
                                     (syzygies.s_syzygies, (RING, (X, Y))), (resolutions.betti_numbers, (RING, (X, Y))),
-                                    (hilbert.independent_sets, (RING, (P, X)))):
+                                    (hilbert.independent_sets, (RING, (P, X))), (complexes.faces, (3, SQUARE)),
+                                    (monoideals.primary_parts, (2, MONOS)), (complexes.hochster, (0, 3, SQUARE)),
+                                    (complexes.square_betti, (0, 3, SQUARE)), (lattices.fibre, (COINS, (1, 1, 1))),
+                                    (changing.weight_bases, (RING, (P, X), 2)), (changing.universal, (RING, (P, X), 2)),
+                                    (primary.primary_ideals, (PRIME, (PX, PY))),
+                                    (primary.idempotents, (PRIME, (PX, PY)))):
             first = function(*arguments)
             kept = list(first)
             first.append(None)
@@ -266,6 +353,20 @@ class Arguments(unittest.TestCase):
         self.assertTrue(membership.shows_member(ring=RING, polys=(X,), p=X, value=value))
         self.assertEqual(membership.outsider(ring=RING, one=(Y,), other=(X,)), 0)
         self.assertFalse(membership.same_ideal(ring=RING, one=(Y,), other=(X,)))
+        self.assertEqual(monoideals.mono_meet(many=2, one=MONOS, other=()), ())
+        self.assertEqual(monoideals.mono_quotient(many=2, monos=MONOS, mono=(2, 0)), ((0, 0),))
+        self.assertTrue(monoideals.shows_witness(many=2, monos=MONOS, places=(0,), value=(0, 1)))
+        self.assertEqual(complexes.faces(many=1, facets=((),)), [()])
+        self.assertEqual(complexes.hochster(field=0, many=1, sets=()), [(0, (), 1)])
+        self.assertEqual(zeros.times_matrix(ring=RING, polys=(X, Y), p=X), (((0, 1),),))
+        self.assertEqual(points.interpolated(ring=RING, points=(), values=()), ())
+        self.assertFalse(points.shows_no_zero(ring=PRIME, polys=(PX,), value=None))
+        self.assertEqual(lattices.cheapest(matrix=COINS, costs=(1, 1, 1), some=(6, 0, 0)), (0, 0, 2))
+        self.assertTrue(lattices.is_joined(matrix=COINS, moves=(), one=(1, 0, 0), other=(1, 0, 0)))
+        self.assertEqual(changing.changed(ring=RING, polys=(X, Y), other=RING), (Y, X))
+        self.assertEqual(changing.graded_basis(ring=RING, polys=(X, Y), degree=0), ())
+        self.assertEqual(changing.universal(ring=RING, polys=(X,), most=1), [X])
+        self.assertEqual(primary.part_count(ring=PRIME, polys=(PX, PY)), 2)
 
 
 class Pairs(unittest.TestCase):

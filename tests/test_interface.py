@@ -3,6 +3,8 @@ import importlib
 import inspect
 import unittest
 
+from idealcore.sessions import Session
+
 INTERFACE = {
     "numbers": ["number(field, n, d)", "number_sum(field, a, b)", "number_product(field, a, b)",
                 "number_inverse(field, a)"],
@@ -36,7 +38,27 @@ INTERFACE = {
                 "independent_sets(ring, polys)", "dimension(ring, polys)"],
     "growth": ["expansion(number, degree)", "grown(number, degree)", "growth_gap(many, values)",
                "lex_ideal(many, values)"],
+    "monoideals": ["least_monomials(many, monos)", "mono_meet(many, one, other)", "mono_quotient(many, monos, mono)",
+                   "mono_radical(many, monos)", "irreducible_parts(many, monos)", "associated(many, monos)",
+                   "witness(many, monos, places)", "shows_witness(many, monos, places, value)",
+                   "primary_parts(many, monos)", "quotient_order(many, monos)",
+                   "shows_quotient_order(many, monos, value)"],
+    "complexes": ["faces(many, facets)", "f_vector(many, facets)", "nonfaces(many, facets)", "complex_of(many, sets)",
+                  "covers(many, sets)", "dual_complex(many, facets)", "homology(field, many, facets)",
+                  "hochster(field, many, sets)", "square_betti(field, many, sets)", "polarized(many, monos)"],
+    "zeros": ["is_finite(ring, polys)", "quotient_basis(ring, polys)", "times_matrix(ring, polys, p)",
+              "least_polynomial(ring, polys, p)"],
+    "points": ["zeros(ring, polys)", "field_basis(ring, polys)", "no_zero(ring, polys)",
+               "shows_no_zero(ring, polys, value)", "points_ideal(ring, points)", "separators(ring, points)",
+               "interpolated(ring, points, values)"],
+    "lattices": ["lattice_ideal(ring, matrix)", "fibre(matrix, some)", "cheapest(matrix, costs, some)",
+                 "is_joined(matrix, moves, one, other)", "walk(matrix, moves, one, other)",
+                 "unjoined(matrix, moves)"],
+    "changing": ["changed(ring, polys, other)", "graded_basis(ring, polys, degree)",
+                 "weight_bases(ring, polys, most)", "universal(ring, polys, most)"],
+    "primary": ["primary_ideals(ring, polys)", "part_count(ring, polys)", "idempotents(ring, polys)"],
 }
+SESSION = ["run(self, text)", "trial(self, text)", "names(self)", "ideal_of(self, name)", "undo(self)"]
 
 
 class Interface(unittest.TestCase):
@@ -50,6 +72,14 @@ class Interface(unittest.TestCase):
                 self.assertTrue(inspect.isfunction(function), name)
                 self.assertEqual(function.__module__, f"idealcore.{file}", name)
                 self.assertEqual(f"{name}{inspect.signature(function)}", call)
+
+    def test_the_class_of_sessions(self):
+        self.assertEqual(str(inspect.signature(Session)), "(ring)")
+        self.assertEqual(Session.__module__, "idealcore.sessions")
+        for call in SESSION:
+            name = call.split("(")[0]
+            self.assertIn(name, vars(Session))
+            self.assertEqual(f"{name}{inspect.signature(vars(Session)[name])}", call)
 
 
 if __name__ == "__main__":
