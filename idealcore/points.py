@@ -5,11 +5,11 @@ from idealcore.completion import ready_basis, reduced_among
 from idealcore.division import cofactors_and_rest
 from idealcore.errors import NotPrime, TooMany
 from idealcore.fields import as_fraction
+from idealcore.fieldpoints import UnitSearch, field_polynomials, folded, zeros_of
 from idealcore.membership import tells
-from idealcore.packed import combination, packed, packed_product, unpacked
+from idealcore.packed import combination, packed, packed_product, sum_of_terms, unpacked
 from idealcore.quotients import VectorIdeal
 from idealcore.reducing import monic
-from idealcore.tracing import tracer_of
 
 MOST_FIELD_POINTS = 1000
 
@@ -28,92 +28,44 @@ def check_field_points(ring, polys):
     return coding
 
 
-def folded_exponent(prime, exponent):
-    """The exponent below the prime with which a power of a variable has the same values."""
-    return exponent if exponent < prime else (exponent - 1) % (prime - 1) + 1
-
-
-def folded(coding, value):
-    """The packed polynomial with exponents below the prime that has the same values as another one."""
-    total = {}
-    for code, n in value[0].items():
-        at = coding.code([folded_exponent(coding.field, exponent) for exponent in coding.exponents(code)])
-        total[at] = (total.get(at, 0) + n) % coding.field
-    return ({code: n for code, n in total.items() if n}, 1)
-
-
 def zeros(ring, polys):
     """All points at which all generators are zero, ascending."""
-    return tuple(field_zeros(check_field_points(ring, polys), polys))
+    coding = check_field_points(ring, polys)
+    return tuple(zeros_of(coding, folded_values(coding, polys)))
 
 
-def field_zeros(coding, polys):
-    """The list of these points."""
-    values = [folded(coding, packed(coding, p)) for p in polys]
-    tables = [{coding.exponents(code): n for code, n in table.items()} for table, _ in values]
-    return zeros_behind(coding.field, coding.many, (), tables)
-
-
-def zeros_behind(prime, many, start, tables):
-    """The zeros that begin with some numbers, which have been put into the tables; these are left with the others."""
-    if len(start) == many:
-        return [] if any(tables) else [start]
-    found = []
-    for number in range(prime):
-        powers = [1]
-        for _ in range(prime - 1):
-            powers.append(powers[-1] * number % prime)
-        found += zeros_behind(prime, many, start + (number,), [put_in_first(prime, table, powers) for table in tables])
-    return found
-
-
-def put_in_first(prime, table, powers):
-    """The table that is left if a number, told by its powers, is put in the place of the first variable."""
-    total = {}
-    for exponents, n in table.items():
-        rest = exponents[1:]
-        total[rest] = (total.get(rest, 0) + n * powers[exponents[0]]) % prime
-    return {exponents: n for exponents, n in total.items() if n}
-
-
-def field_polynomials(coding):
-    """The field's polynomial of each variable, packed."""
-    return [({coding.field * unit: 1, unit: coding.field - 1}, 1) for unit in coding.units]
+def folded_values(coding, polys):
+    """The packed polynomials with exponents below the prime that have the same values as some polynomials."""
+    return [folded(coding, packed(coding, p)) for p in polys]
 
 
 def field_basis(ring, polys):
     """The reduced basis of the ideal of the generators and the field's polynomials."""
     coding = check_field_points(ring, polys)
-    values = [folded(coding, packed(coding, p)) for p in polys]
+    values = folded_values(coding, polys)
     ready = ready_basis(coding, [value for value in values if value[0]] + field_polynomials(coding))
     if ready is not None:
         return tuple([monic(coding, reducer) for reducer in reduced_among(coding, ready.reducers)])
     # The polynomials of this ideal are those that are zero at all zeros.
-    return basis_at(coding, field_zeros(coding, polys))
+    return basis_at(coding, zeros_of(coding, values))
 
 
 def no_zero(ring, polys):
     """Cofactors of the generators and the field's polynomials with 1 as the sum of the products, None if zeros are."""
     coding = check_field_points(ring, polys)
-    if field_zeros(coding, polys):
+    plain = plain_coding(coding)
+    values = folded_values(plain, polys)
+    if zeros_of(plain, values):
         return None
-    factors = few_cofactors(coding, polys)
+    factors = UnitSearch(plain, values).cofactors()
     # What is left of 1 is zero at all points, and so the field's polynomials divide it.
     parts = [(1, 1, 0, ({0: 1}, 1))]
     for factor, p in zip(factors, polys):
-        parts.append((-1, 1, 0, packed_product(coding.field, factor, packed(coding, p))))
-    divisors = [unpacked(coding, value) for value in field_polynomials(coding)]
-    behind, _ = cofactors_and_rest(coding, combination(coding.field, parts), divisors)
-    return tuple([unpacked(coding, factor) for factor in factors] + behind)
-
-
-def few_cofactors(coding, polys):
-    """Packed cofactors, with exponents below the prime, with which the sum of the products is 1 at all points."""
-    plain = plain_coding(coding)
-    few = [unpacked(plain, folded(plain, packed(plain, p))) for p in polys]
-    tracer = tracer_of(plain, few + [unpacked(plain, value) for value in field_polynomials(plain)])
-    row = tracer.row(({0: 1}, 1))
-    return [packed(coding, unpacked(plain, folded(plain, factor))) for factor in row[:len(polys)]]
+        parts.append((-1, 1, 0, packed_product(coding.field, factor, packed(plain, p))))
+    divisors = [unpacked(plain, value) for value in field_polynomials(plain)]
+    behind, _ = cofactors_and_rest(plain, combination(coding.field, parts), divisors)
+    found = [unpacked(plain, factor) for factor in factors] + behind
+    return tuple([sum_of_terms(coding, p) for p in found])
 
 
 def shows_no_zero(ring, polys, value):

@@ -22,7 +22,7 @@ def check_prime_quotient(ring, polys):
 
 def prime_powers(quotient):
     """The powers with the prime of the standard monomials, in order."""
-    found = [quotient.one()][:len(quotient.codes)]
+    found = [quotient.one()] if quotient.codes else []
     for index, place in quotient.parents:
         vector = found[index]
         for _ in range(quotient.coding.field):

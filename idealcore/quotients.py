@@ -173,7 +173,7 @@ class Quotient:
 
     def multiples(self, vector):
         """The products of a vector and each standard monomial, in order."""
-        found = [vector][:len(self.codes)]
+        found = [vector] if self.codes else []
         for index, place in self.parents:
             found.append(self.times(found[index], place))
         return found

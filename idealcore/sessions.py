@@ -63,8 +63,8 @@ def made_by(coding, kept, line):
     """The ideal that a line gives to a name."""
     if line.word == "let":
         return kept_by_generators(coding, packed_plainly(coding, line.polys))
-    join = JOINING[line.word]
-    return join(coding, kept[line.labels[0]], kept[line.labels[1]])
+    action = JOINING[line.word]
+    return action(coding, kept[line.labels[0]], kept[line.labels[1]])
 
 
 def told_of(coding, ideal, line):

@@ -2,7 +2,7 @@
 import random
 from fractions import Fraction
 
-from idealcore.polys import minus, times
+from idealcore.polys import minus, plus, times
 from idealcore.texts import read
 from tests.oracle import from_dict, orders_of, random_polynomial
 
@@ -45,6 +45,18 @@ def even_lot(rng, ring, most=4, top=3, terms=3):
     polys = [even_polynomial(rng, ring, rng.randint(1, top), terms) for _ in range(rng.randint(1, most))]
     if rng.random() < 0.2:
         polys.insert(rng.randint(0, len(polys)), ())
+    return tuple(polys)
+
+
+def finite_lot(rng, ring, top=3):
+    """A polynomial for each variable, led in orders by degrees by a power of it: the quotient ring is finite."""
+    field, many, _ = ring
+    one = 1 if field else (1, 1)
+    polys = []
+    for place in range(many):
+        power = rng.randint(1, top)
+        lead = ((one, tuple(power if k == place else 0 for k in range(many))),)
+        polys.append(plus(ring, lead, random_polynomial(rng, ring, power - 1, 3)))
     return tuple(polys)
 
 

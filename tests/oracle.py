@@ -205,3 +205,22 @@ def random_polynomial(rng, ring, degree, terms):
         number = rng.randint(1, field - 1) if field else Fraction(rng.randint(-5, 5), rng.choice((1, 1, 2, 3)))
         table[tuple(monomial)] = number
     return from_dict(ring, table)
+
+
+def rank(field, rows):
+    """The rank of a list of lists of numbers, by elimination."""
+    rows = [[n % field if field else Fraction(n) for n in row] for row in rows]
+    found = 0
+    for column in range(len(rows[0]) if rows else 0):
+        pivot = next((k for k in range(found, len(rows)) if rows[k][column]), None)
+        if pivot is None:
+            continue
+        rows[found], rows[pivot] = rows[pivot], rows[found]
+        lead = inverse(field, rows[found][column])
+        for k in range(found + 1, len(rows)):
+            factor = rows[k][column] * lead
+            rows[k] = [a - factor * b for a, b in zip(rows[k], rows[found])]
+            if field:
+                rows[k] = [a % field for a in rows[k]]
+        found += 1
+    return found

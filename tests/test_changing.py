@@ -6,21 +6,9 @@ from itertools import product
 from idealcore.bases import basis, is_basis, leading_monomials
 from idealcore.changing import changed, graded_basis, universal, weight_bases
 from idealcore.errors import BadInteger, BadPolynomials, BadRing, NotEven, NotFinite, OtherRing, TooMany
-from idealcore.polys import degree, plus, reordered, scaled
-from tests.lots import even_lot, lot, of_texts, rings
-from tests.oracle import orders_of, random_polynomial
-
-
-def finite_lot(rng, ring, top=3):
-    """Generators, each led by a power of a variable in orders by degrees."""
-    field, many, _ = ring
-    one = (1, 1) if field == 0 else 1
-    polys = []
-    for place in range(many):
-        power = rng.randint(1, top)
-        lead = ((one, tuple(power if k == place else 0 for k in range(many))),)
-        polys.append(plus(ring, lead, random_polynomial(rng, ring, power - 1, 3)))
-    return tuple(polys)
+from idealcore.polys import degree, reordered, scaled
+from tests.lots import even_lot, finite_lot, lot, of_texts, rings
+from tests.oracle import orders_of
 
 
 def monic(ring, p):

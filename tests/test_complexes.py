@@ -1,7 +1,6 @@
 """Points 30 to 32: complexes, their homology, and ideals without squares."""
 import random
 import unittest
-from fractions import Fraction
 from itertools import combinations
 
 from idealcore.complexes import complex_of, covers, dual_complex, f_vector, faces, hochster, homology, nonfaces
@@ -10,6 +9,7 @@ from idealcore.errors import BadComplex, BadField, BadInteger, BadMonomials, Bad
 from idealcore.monoideals import least_monomials
 from idealcore.resolutions import betti_numbers
 from tests.lots import ODD
+from tests.oracle import rank
 
 OF_FACETS = (faces, f_vector, nonfaces, dual_complex)
 OF_SETS = (complex_of, covers)
@@ -35,25 +35,6 @@ def greatest(sets):
 
 def faces_of(many, facets):
     return [s for s in all_sets(many) if any(part(s, f) for f in facets)]
-
-
-def rank(field, rows):
-    """The rank of a list of lists of integers, by elimination."""
-    rows = [[n % field if field else Fraction(n) for n in row] for row in rows]
-    found = 0
-    for column in range(len(rows[0]) if rows else 0):
-        pivot = next((k for k in range(found, len(rows)) if rows[k][column]), None)
-        if pivot is None:
-            continue
-        rows[found], rows[pivot] = rows[pivot], rows[found]
-        inverse = pow(rows[found][column], -1, field) if field else 1 / rows[found][column]
-        for k in range(found + 1, len(rows)):
-            times = rows[k][column] * inverse
-            rows[k] = [a - times * b for a, b in zip(rows[k], rows[found])]
-            if field:
-                rows[k] = [a % field for a in rows[k]]
-        found += 1
-    return found
 
 
 def plain_homology(field, many, own_faces):

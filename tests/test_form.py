@@ -152,6 +152,29 @@ class Form(unittest.TestCase):
                     if hasattr(builtins, node.func.id):
                         self.assertLessEqual(words, {"key", "reverse", "default", "start"}, name)
 
+    def test_attributes(self):
+        barred = set("""items keys values pop update append clear extend insert remove reverse setdefault sort args encode
+            decode hex fromhex format""".split()) | BARRED
+        for name, tree in self.trees():
+            for node in ast.walk(tree):
+                if isinstance(node, ast.ClassDef):
+                    methods = {m.name for m in node.body if isinstance(m, ast.FunctionDef)}
+                    stored = {n.attr for n in ast.walk(node) if isinstance(n, ast.Attribute)
+                              and isinstance(n.ctx, ast.Store)}
+                    self.assertFalse(stored & (barred | methods), (name, node.name))
+
+    def test_library_is_called_by_position(self):
+        words = {word for some in LIBRARY.values() for word in some}
+        for name, tree in self.trees():
+            own = {alias.name for node in ast.walk(tree) if isinstance(node, ast.ImportFrom)
+                   and node.module in LIBRARY for alias in node.names}
+            called = {id(node.func) for node in ast.walk(tree) if isinstance(node, ast.Call)}
+            for node in ast.walk(tree):
+                if isinstance(node, ast.Call) and isinstance(node.func, ast.Name) and node.func.id in own & words:
+                    self.assertEqual(node.keywords, [], (name, node.lineno))
+                if isinstance(node, ast.Name) and node.id in own:
+                    self.assertIn(id(node), called, (name, node.lineno))
+
     def test_views_are_iterated_on_the_spot(self):
         heads = {"zip", "enumerate", "reversed", "range", "items", "keys", "values"}
         takers = {"list", "tuple", "dict", "sorted", "sum", "any", "all", "enumerate", "zip", "min", "max", "reversed",

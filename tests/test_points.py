@@ -135,6 +135,17 @@ class NoZero(unittest.TestCase):
         for ring in small_rings():
             self.check(ring, without_zeros(random.Random(repr(ring) + "none"), ring))
 
+    def test_few_terms_over_great_primes(self):
+        # The cofactors have up to 500 terms, so that they can be passed again.
+        for prime in (23, 29, 31):
+            rng = random.Random(prime)
+            checked = 0
+            while checked < 3:
+                polys = tuple(random_polynomial(rng, (prime, 2, "lex"), 2, 6) for _ in range(2))
+                if not zeros((prime, 2, "lex"), polys):
+                    self.check((prime, 2, "lex"), polys)
+                    checked += 1
+
     def test_none_if_there_are_zeros(self):
         for ring in small_rings(False):
             rng = random.Random(repr(ring) + "some")

@@ -8,10 +8,10 @@ from idealcore.errors import BadPolynomials, BadRing, NotFinite, NotPrime, TooMa
 from idealcore.ideals import ideal_sum, in_radical, meet
 from idealcore.membership import normal_form
 from idealcore.points import points_ideal
-from idealcore.polys import minus, plus, power, times
+from idealcore.polys import minus, power, times
 from idealcore.primary import idempotents, part_count, primary_ideals
 from idealcore.zeros import least_polynomial, quotient_basis
-from tests.lots import of_texts
+from tests.lots import finite_lot, of_texts
 from tests.oracle import orders_of, random_polynomial
 
 ALL = (primary_ideals, part_count, idempotents)
@@ -24,15 +24,6 @@ def one_of(ring):
 def some_rings():
     return [(field, many, order) for field, many in ((2, 1), (2, 3), (3, 2), (5, 2), (7, 1), (2, 4), (31, 2))
             for order in orders_of(many)]
-
-
-def finite_lot(rng, ring, top=3):
-    field, many, _ = ring
-    polys = []
-    for place in range(many):
-        lead = ((1, tuple(rng.randint(1, top) if k == place else 0 for k in range(many))),)
-        polys.append(plus(ring, lead, random_polynomial(rng, ring, max(lead[0][1]) - 1, 3)))
-    return tuple(polys)
 
 
 def is_irreducible(prime, numbers):

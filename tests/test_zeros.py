@@ -8,19 +8,13 @@ from idealcore.errors import BadPolynomial, BadPolynomials, BadRing, NotFinite, 
 from idealcore.membership import normal_form
 from idealcore.polys import minus, plus, times
 from idealcore.zeros import is_finite, least_polynomial, quotient_basis, times_matrix
-from tests.lots import lot, of_texts, rings
-from tests.oracle import from_number, random_polynomial, to_number
+from tests.lots import finite_lot, lot, of_texts, rings
+from tests.oracle import from_number, random_polynomial, rank, to_number
 
 
 def powers_and_more(rng, ring, most=3):
-    """Generators of an ideal with a finite quotient ring: a polynomial led by a power of each variable, and others."""
-    field, many, _ = ring
-    one = (1, 1) if field == 0 else 1
-    polys = []
-    for place in range(many):
-        top = rng.randint(1, most)
-        power = ((one, tuple(top if k == place else 0 for k in range(many))),)
-        polys.append(plus(ring, power, random_polynomial(rng, ring, top - 1, 3)))
+    """Generators of an ideal with a finite quotient ring, at times more than there are variables."""
+    polys = list(finite_lot(rng, ring, most))
     if rng.random() < 0.5:
         polys.append(random_polynomial(rng, ring, 3, 3))
     rng.shuffle(polys)
@@ -191,22 +185,7 @@ class LeastPolynomials(unittest.TestCase):
                 numbers = ((0, 1) if field == 0 else 0,) * k + unit
                 rows.append([to_number(field, n) for n in
                              numbers_in(field, put_in(ring, polys, numbers, p), monomials)])
-            self.assertEqual(self.rank(field, rows), len(rows))
-
-    def rank(self, field, rows):
-        found = 0
-        for column in range(len(rows[0]) if rows else 0):
-            pivot = next((k for k in range(found, len(rows)) if rows[k][column]), None)
-            if pivot is None:
-                continue
-            rows[found], rows[pivot] = rows[pivot], rows[found]
-            inverse = pow(rows[found][column], -1, field) if field else 1 / rows[found][column]
-            for k in range(found + 1, len(rows)):
-                factor = rows[k][column] * inverse
-                rows[k] = [a - factor * b for a, b in zip(rows[k], rows[found])]
-                rows[k] = [a % field for a in rows[k]] if field else rows[k]
-            found += 1
-        return found
+            self.assertEqual(rank(field, rows), len(rows))
 
     def test_known(self):
         ring = (0, 2, "degrevlex")
