@@ -7,7 +7,6 @@ from idealcore.bases import basis
 from idealcore.errors import BadCosts, BadMatrix, BadMonomial, BadMoves, BadRing, OtherTotals, TooMany
 from idealcore.lattices import cheapest, fibre, is_joined, lattice_ideal, unjoined, walk
 from idealcore.membership import normal_form
-from idealcore.polys import minus
 from tests.oracle import degrevlex_greater, orders_of
 
 

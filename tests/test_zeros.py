@@ -9,7 +9,7 @@ from idealcore.membership import normal_form
 from idealcore.polys import minus, plus, times
 from idealcore.zeros import is_finite, least_polynomial, quotient_basis, times_matrix
 from tests.lots import finite_lot, lot, of_texts, rings
-from tests.oracle import from_number, random_polynomial, rank, to_number
+from tests.oracle import divides, from_number, random_polynomial, rank, to_number
 
 
 def powers_and_more(rng, ring, most=3):
@@ -91,11 +91,16 @@ class Finite(unittest.TestCase):
 class StandardMonomials(unittest.TestCase):
 
     def test_against_standard_monomials(self):
-        for ring, polys in finite_lots(4):
+        for ring, polys in finite_lots(4, top=2):
             found = quotient_basis(ring, polys)
             self.assertIsInstance(found, tuple)
-            self.assertLess(max([sum(m) for m in found], default=0), 12)
-            self.assertEqual(list(found), standard_monomials(ring, polys, 12))
+            self.assertEqual([m for m in found if sum(m) <= 12], standard_monomials(ring, polys, 12))
+            heads = leading_monomials(ring, polys)
+            self.assertFalse(any(divides(head, m) for m in found for head in heads))
+            for m in [m for m in found if sum(m) == max(map(sum, found))]:
+                for k in range(ring[1]):
+                    wider = m[:k] + (m[k] + 1,) + m[k + 1:]
+                    self.assertTrue(any(divides(head, wider) for head in heads))
 
     def test_the_ideal_of_one(self):
         for ring in rings(4, (0, 3)):
