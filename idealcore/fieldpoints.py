@@ -69,10 +69,10 @@ class UnitSearch:
         self.columns = {}
         self.labels = [(0, -1)]
         self.echelon = Echelon(coding.field)
-        self.echelon.put({self.column(0): 1, -1: 1})
+        self.echelon.put({self.column_of(0): 1, -1: 1})
         self.dependent = []
 
-    def column(self, code):
+    def column_of(self, code):
         """The column of a folded monomial."""
         return self.columns.setdefault(code, len(self.columns))
 
@@ -80,7 +80,7 @@ class UnitSearch:
         """The row of the product of a monomial and a generator."""
         product = {code + at: n for at, n in self.generators[index][0].items()}
         table, _ = folded(self.coding, (product, 1))
-        row = {self.column(at): n for at, n in table.items()}
+        row = {self.column_of(at): n for at, n in table.items()}
         row[-1 - len(self.labels)] = 1
         return row
 

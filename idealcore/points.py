@@ -58,12 +58,11 @@ def no_zero(ring, polys):
     if zeros_of(plain, values):
         return None
     factors = UnitSearch(plain, values).cofactors()
-    # What is left of 1 is zero at all points, and so the field's polynomials divide it.
-    parts = [(1, 1, 0, ({0: 1}, 1))]
-    for factor, p in zip(factors, polys):
-        parts.append((-1, 1, 0, packed_product(coding.field, factor, packed(plain, p))))
+    products = [packed_product(coding.field, factor, packed(plain, p)) for factor, p in zip(factors, polys)]
+    # The sum of the products is 1 at all points: the field's polynomials leave 1 of it, of the negative sum -1.
+    negative = combination(coding.field, [(-1, 1, 0, product) for product in products])
     divisors = [unpacked(plain, value) for value in field_polynomials(plain)]
-    behind, _ = cofactors_and_rest(plain, combination(coding.field, parts), divisors)
+    behind, _ = cofactors_and_rest(plain, negative, divisors)
     found = [unpacked(plain, factor) for factor in factors] + behind
     return tuple([sum_of_terms(coding, p) for p in found])
 
